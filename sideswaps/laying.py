@@ -1,6 +1,8 @@
 """Lies: the ring of one word laid on the ring of another one."""
 
+from sideswaps.errors import InvalidNumber
 from sideswaps.rings import ring_stars
+from sideswaps.words import check_prices, check_word, is_count, letters_priced
 
 
 def laid(one, lie):
@@ -44,3 +46,38 @@ def _cell_to_take(signs, wanted, hole):
     """The first wrong cell with the joint that is wanted in the hole's cell, or with any joint if it is none."""
     wrong = [cell for cell, sign in enumerate(signs) if sign not in (wanted[cell], "_")]
     return [cell for cell in wrong if wanted[hole] in (signs[cell], "_")][0]
+
+
+def check_lie(one, other, prices, lie):
+    """Refuse what is no word, then no word, then no prices, then no lie of words of which one comes to the other."""
+    check_word(one)
+    check_word(other)
+    check_prices(prices)
+    if not is_count(lie) or lie not in lies_leading(one, other, letters_priced(prices)):
+        raise InvalidNumber(lie)
+
+
+def wrong_cells(one, other, lie):
+    """For each wrong cell of a lie the tuple of its sign and its wanted one."""
+    return [(sign, wanted) for sign, wanted in zip(laid(one, lie), other + "_") if sign != wanted]
+
+
+def lots_tied(one, other, lie):
+    """The list of the lots of a lie, in order."""
+    lot_of = {}
+    for sign, wanted in wrong_cells(one, other, lie):
+        first, second = lot_of.get(sign, sign), lot_of.get(wanted, wanted)
+        if first != second:
+            joined = "".join(sorted(first + second))
+            for each in joined:
+                lot_of[each] = joined
+    return sorted(set(list(lot_of.values())))
+
+
+def value_of(one, other, lie, costs):
+    """The value of a lie, by a dict of the price of each joint."""
+    value = sum([costs[sign] for sign, wanted in wrong_cells(one, other, lie) if sign != "_"])
+    for lot in lots_tied(one, other, lie):
+        if "_" not in lot:
+            value += min([costs[sign] for sign in lot])
+    return value

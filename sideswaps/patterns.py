@@ -1,6 +1,7 @@
 """Patterns: the words of a class with a star for each joint, and how letters are put on the stars."""
 
-from sideswaps.rings import ring_stars, turnings
+from sideswaps.counting import orders_of
+from sideswaps.rings import ring_stars, starred, turnings
 
 
 def patterns(word, joints):
@@ -28,3 +29,11 @@ def texts_over(signs, size):
     for _ in range(size):
         texts = [text + sign for text in texts for sign in signs]
     return texts
+
+
+def how_many_having(rows, word, joints, place, text):
+    """How many words of the class of a word, whose patterns the rows are, have a text from a place on."""
+    wanted = starred(text, joints)
+    fitting = [row for row in rows if row[place:place + len(text)] == wanted]
+    left = [word.count(letter) - text.count(letter) for letter in joints]
+    return 0 if min(left, default=0) < 0 else len(fitting) * orders_of(left)

@@ -58,7 +58,7 @@ class ComesTest(unittest.TestCase):
             None, True, 1, "", (), [], {}, ("joint",), ("joint", "x", 1), ["joint", "x", 1, 0], ("joint", "x", 0, 1),
             ("joint", "x", True, False), ("joint", "x", 1, False), ("joint", "x", True, 0), ("joint", "a", 1, 1),
             ("joint", "z", 0, 0), ("joint", "xy", 1, 0), ("joint", "", 3, 3), ("joint", ["x"], 1, 0),
-            ("joint", "x", 1, 1), ("joint", "x", 1, 0, 0), ("joint", None, 1, 0), ("ring", "**a", "**a"),
+            ("joint", "x", 1, 1), ("joint", "x", 2, 0), ("joint", "x", 1, 2), ("joint", "x", 1, 0, 0), ("joint", None, 1, 0), ("ring", "**a", "**a"),
             ("ring", "x", 1, 0), ("joint", "**a", "**a"), ("ring", "*a*", "**a"), (("joint", "x", 1, 0),),
             (["joint"], "x", 1, 0), ("joint", "x", "1", "0"),
         ]:
@@ -135,7 +135,7 @@ class RoadTest(unittest.TestCase):
 class FirstAndLastTest(unittest.TestCase):
     def test_against_deeds(self):
         for joints in JOINTS:
-            for word, members in plain_classes(words_up_to("abxy"[1:] + "a", 4), joints).items():
+            for word, members in plain_classes(words_up_to("abxy", 4), joints).items():
                 self.assertEqual(first_word(word, joints), members[0])
                 self.assertEqual(last_word(word, joints), members[-1])
 
@@ -183,6 +183,7 @@ class ClassesOfTest(unittest.TestCase):
     def test_refused(self):
         check_refusals(self, classes_of, {"words": ["ax"], "joints": "xy"},
                        {"words": (InvalidList, NOT_LISTS), "joints": (InvalidJoints, NOT_JOINTS)})
+        check_refusals(self, classes_of, {"words": [], "joints": "xy"}, {"joints": (InvalidJoints, NOT_JOINTS)})
         for wrong in NOT_WORDS:
             for joints in ("xy", "yx"):
                 with self.assertRaises(InvalidWord) as caught:

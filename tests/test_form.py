@@ -66,7 +66,9 @@ class FormTest(unittest.TestCase):
                         self.assertLessEqual(names, LIBRARY[node.module], path)
                         continue
                     defined = ast.parse((PACKAGE / (node.module.split(".")[1] + ".py")).read_text()).body
-                    self.assertLessEqual(names, {each.name for each in defined if hasattr(each, "name")}, path)
+                    there = {each.name for each in defined if hasattr(each, "name")}
+                    there |= {each.targets[0].id for each in defined if isinstance(each, ast.Assign)}
+                    self.assertLessEqual(names, there, path)
 
     def test_no_round_of_imports(self):
         needs = {

@@ -3,12 +3,18 @@
 import copy
 import importlib
 import inspect
+import signal
 import time
 import unittest
 
 # How long one call at the limits may take, far above what it does take.
 SECONDS = 10
 FEES = [("x", 3), ("y", 5)]
+ALPHABET = "abcdefghijklmnopqrstuvwxyz"
+ALL_FEES = [(letter, 10 ** 30 - 1 - k) for k, letter in enumerate(ALPHABET)]
+LONGEST = (ALPHABET * 12)[:300]
+# A ring of 200 stars that 20 turnings leave as it is.
+RING_OF_20 = ("x" * 10 + "a") * 20
 # The interface: for each module each function with arguments by name, and with arguments at its limits.
 CALLS = {
     "words": [
@@ -56,6 +62,54 @@ CALLS = {
         ("parted_by", {"one": "axy", "other": "xay", "joints": "xy"},
          {"one": "abcdefgz", "other": "zabcdefg", "joints": "abcdefghijklmnopq"}),
     ],
+    "sizes": [
+        ("class_size", {"word": "axbyc", "joints": "xy"}, {"word": LONGEST, "joints": ALPHABET}),
+        ("class_words", {"word": "axbyc", "joints": "xy"}, {"word": "y" + RING_OF_20[2:], "joints": "xy"}),
+        ("parts_by", {"word": "axbyc", "joints": "xy", "fewer": "x"},
+         {"word": "xy" * 149 + "x", "joints": "xy", "fewer": "x"}),
+    ],
+    "numbering": [
+        ("how_many_ahead", {"word": "xay", "joints": "xy", "text": "xay"},
+         {"word": LONGEST[:60], "joints": ALPHABET, "text": LONGEST[59::-1]}),
+        ("word_numbered", {"word": "xay", "joints": "xy", "number": 3},
+         {"word": LONGEST[:60], "joints": ALPHABET, "number": 10 ** 30 - 1}),
+        ("next_word", {"word": "xay", "joints": "xy"}, {"word": LONGEST[:60], "joints": ALPHABET}),
+        ("first_from", {"word": "xay", "joints": "xy", "text": "b"},
+         {"word": LONGEST[:60], "joints": ALPHABET, "text": LONGEST[59::-1]}),
+    ],
+    "means": [
+        ("how_many_with", {"word": "xay", "joints": "xy", "place": 0, "text": "a"},
+         {"word": LONGEST[:60], "joints": ALPHABET, "place": 7, "text": "zab"}),
+        ("letters_at", {"word": "xax", "joints": "x", "place": 0},
+         {"word": LONGEST[:60], "joints": ALPHABET, "place": 59}),
+        ("mean_of", {"word": "xay", "joints": "xy", "text": "xy"},
+         {"word": LONGEST[:60], "joints": ALPHABET, "text": "zab"}),
+    ],
+    "lengths": [
+        ("how_many_classes", {"letters": "abx", "joints": "x", "length": 2},
+         {"letters": ALPHABET, "joints": ALPHABET[::2], "length": 200}),
+        ("classes_by_size", {"letters": "abx", "joints": "x", "length": 2},
+         {"letters": ALPHABET, "joints": "abc", "length": 24}),
+        ("how_many_pairs", {"letters": "abx", "joints": "x", "length": 2},
+         {"letters": ALPHABET, "joints": "abc", "length": 60}),
+        ("first_words", {"letters": "abx", "joints": "x", "length": 2},
+         {"letters": "ax", "joints": "x", "length": 12}),
+    ],
+    "fewest": [
+        ("lies", {"one": "axa", "other": "axa", "joints": "x"}, {"one": "x" * 300, "other": "y" * 300, "joints": "xy"}),
+        ("lots", {"one": "axby", "other": "aybx", "prices": FEES, "lie": 0},
+         {"one": LONGEST, "other": LONGEST[::-1], "prices": ALL_FEES, "lie": 300}),
+        ("lie_value", {"one": "axby", "other": "aybx", "prices": FEES, "lie": 0},
+         {"one": LONGEST, "other": LONGEST[::-1], "prices": ALL_FEES, "lie": 300}),
+        ("cheapest", {"one": "axby", "other": "aybx", "prices": FEES},
+         {"one": LONGEST, "other": LONGEST[::-1], "prices": ALL_FEES}),
+        ("fewest_deeds", {"one": "axby", "other": "aybx", "joints": "xy"},
+         {"one": LONGEST, "other": LONGEST[::-1], "joints": ALPHABET}),
+        ("one_deed_less", {"one": "axby", "other": "aybx", "prices": FEES, "lie": 0},
+         {"one": LONGEST, "other": LONGEST[::-1], "prices": ALL_FEES, "lie": 300}),
+        ("price_line", {"one": "axby", "other": "aybx", "prices": FEES, "letter": "x"},
+         {"one": LONGEST[:60], "other": LONGEST[59::-1], "prices": ALL_FEES, "letter": "c"}),
+    ],
 }
 
 
@@ -67,6 +121,11 @@ def each_call():
             yield getattr(found, name), ordinary, largest
 
 
+def too_slow(number, frame):
+    """What the alarm does."""
+    raise AssertionError("a call at the limits takes too long")
+
+
 def lists_in(value):
     """All lists within a value."""
     if isinstance(value, (list, tuple)):
@@ -76,6 +135,13 @@ def lists_in(value):
 
 
 class GeneralTest(unittest.TestCase):
+    def setUp(self):
+        signal.signal(signal.SIGALRM, too_slow)
+        signal.alarm(6 * SECONDS)
+
+    def tearDown(self):
+        signal.alarm(0)
+
     def test_names(self):
         for function, ordinary, _ in each_call():
             self.assertEqual(list(inspect.signature(function).parameters), list(ordinary), function.__name__)
