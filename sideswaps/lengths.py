@@ -2,11 +2,8 @@
 
 from math import comb, factorial
 
-from sideswaps.classes import first_word
 from sideswaps.counting import rings_by_turns, ways_to_share
 from sideswaps.errors import InvalidWord, TooMany
-from sideswaps.patterns import filled, texts_over
-from sideswaps.rings import is_star_ring
 from sideswaps.sizes import MOST_TOLD
 from sideswaps.words import check_count, check_joints, is_joints
 
@@ -95,20 +92,52 @@ def first_words(letters, joints, length):
     if many > MOST_TOLD:
         raise TooMany(many)
     kept = "".join([letter for letter in letters if letter in joints])
-    bodies = [letter for letter in letters if letter not in joints]
-    # Without joints no ring has a second star, and without this there were too many texts to look at.
-    signs = (["*"] if kept else []) + bodies
-    found = []
-    for text in texts_over(signs, length):
-        if is_star_ring("*" + text):
-            for share in _shares_told(kept, text.count("*")):
-                found.append(first_word(filled(text, list(share)), joints))
+    bodies = "".join([letter for letter in letters if letter not in joints])
+    shares, found = {}, []
+    # Without joints no ring has a second star.
+    for ring, period in _star_rings("*" + bodies if kept else bodies, length + 1):
+        rows = [ring[cell + 1:] + ring[:cell] for cell in range(period) if ring[cell] == "*"]
+        stars = rows[0].count("*")
+        if stars not in shares:
+            shares[stars] = _shares_told(kept, stars)
+        if len(rows) == 1:
+            found.extend([_put_on_stars(rows[0], share) for share in shares[stars]])
+        else:
+            found.extend([min([_put_on_stars(row, share) for row in rows]) for share in shares[stars]])
     return sorted(found)
 
 
+def _star_rings(signs, cells):
+    """All rings of so many cells, a star and some signs, each read round from where it is the first, with its period.
+
+    A beginning of such a ring goes on with the sign that stands a period ahead of the next cell, and keeps its period,
+    or with a later sign, and is then its own period; with an earlier one it begins no such ring.
+    """
+    behind = {sign: signs[spot:] for spot, sign in enumerate(signs)}
+    behind["*"] = signs
+    found = [("*", 1)]
+    for spot in range(1, cells):
+        found = [
+            (text + sign, period if sign == text[spot - period] else spot + 1)
+            for text, period in found for sign in behind[text[spot - period]]
+        ]
+    return [(text, period) for text, period in found if cells % period == 0]
+
+
+def _put_on_stars(row, share):
+    """A text with the letters of a share in the places of its stars, one behind the other."""
+    for letter, count in share:
+        row = row.replace("*", letter, count)
+    return row
+
+
 def _shares_told(letters, many):
-    """All texts of so many of some letters in which they are in order."""
-    texts = [""]
-    for _ in range(many):
-        texts = [text + letter for text in texts for letter in letters if text[-1:] <= letter]
-    return texts
+    """All lists of tuples of a letter and how often it is taken, so many letters in all, the letters in order."""
+    shares = [([], many)]
+    for letter in letters:
+        last = letter == letters[-1]
+        shares = [
+            (share + [(letter, count)] if count else share, left - count)
+            for share, left in shares for count in range(left if last else 0, left + 1)
+        ]
+    return [share for share, _ in shares]

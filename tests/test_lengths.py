@@ -1,6 +1,7 @@
 """Points 21 to 23: the classes of all words of one length."""
 
 import math
+import time
 import unittest
 
 from plain import NOT_COUNTS, NOT_JOINTS, NOT_WORDS, check_refusals, plain_classes, words_over
@@ -91,6 +92,31 @@ class LengthsTest(unittest.TestCase):
             with self.assertRaises(TooMany) as caught:
                 first_words(letters, joints, length)
             self.assertEqual(caught.exception.value, many)
+
+    def test_long_lists(self):
+        for letters, joints, length, many, last in [("ab", "", 10, 1024, "b" * 10), ("abc", "a", 7, 798, "c" * 7),
+                                                    ("abcdefghijklm", "m", 3, 1963, "mmm"),
+                                                    ("abcd", "abcd", 12, 455, "d" * 12)]:
+            told = first_words(letters, joints, length)
+            self.assertEqual([len(told), told[0], told[-1]], [many, "a" * length, last])
+            self.assertTrue(all(first < second for first, second in zip(told, told[1:])))
+            self.assertEqual(many, how_many_classes(letters, joints, length))
+            self.assertEqual(told, [first_word(word, joints) for word in told])
+
+    def test_rings_with_periods(self):
+        # Rings that turnings leave as they are, with joints ahead of, between and behind the bodies.
+        for letters, joints in [("abc", "a"), ("abc", "b"), ("abc", "c"), ("abc", "ab"), ("abc", "ac"), ("abc", "bc")]:
+            for length in (5, 7):
+                firsts = sorted({first_word(word, joints) for word in words_over(letters, length)})
+                self.assertEqual(first_words(letters, joints, length), firsts)
+
+    def test_long_rows_of_calls(self):
+        # A bound far above the time that it does take, far below what looking at each word alone took.
+        begun = time.process_time()
+        for _ in range(100):
+            first_words("abc", "a", 7)
+            first_words("ax", "x", 12)
+        self.assertLess(time.process_time() - begun, 2.5)
 
     def test_just_2000(self):
         self.assertEqual(first_words("xy", "xy", 1999), ["x" * k + "y" * (1999 - k) for k in range(1999, -1, -1)])
