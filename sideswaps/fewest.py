@@ -1,8 +1,9 @@
 """The fewest and the cheapest deeds from one word to another one."""
 
 from sideswaps.errors import InvalidJoints
-from sideswaps.laying import all_lies, check_lie, lies_leading, lots_tied, value_of, wrong_cells
-from sideswaps.words import check_prices, check_two, check_word, is_letter, letters_priced, sides_changed
+from sideswaps.laying import all_lies, check_lie, least_lies, lies_leading, places_less, value_of, word_ties
+from sideswaps.ties import lots_of
+from sideswaps.words import check_two, check_two_priced, is_letter, letters_priced
 
 
 def lies(one, other, joints):
@@ -14,7 +15,7 @@ def lies(one, other, joints):
 def lots(one, other, prices, lie):
     """The lots of a lie, in order."""
     check_lie(one, other, prices, lie)
-    return lots_tied(one, other, lie)
+    return lots_of(word_ties(one, other, lie))
 
 
 def lie_value(one, other, prices, lie):
@@ -25,43 +26,25 @@ def lie_value(one, other, prices, lie):
 
 def cheapest(one, other, prices):
     """The least price of a road from one word to another one, None if there is none."""
-    check_word(one)
-    check_word(other)
-    check_prices(prices)
-    return _least_value(one, other, dict(prices))
+    check_two_priced(one, other, prices)
+    return least_lies(one, other, dict(prices))[0]
 
 
 def fewest_deeds(one, other, joints):
     """The least number of deeds from one word to another one, None if there is no road."""
     check_two(one, other, joints)
-    return _least_value(one, other, {letter: 1 for letter in joints})
-
-
-def _least_value(one, other, costs):
-    """The least value of a lie by which one word comes to another one, None if there is none."""
-    found = lies_leading(one, other, "".join(list(costs)))
-    return min([value_of(one, other, lie, costs) for lie in found], default=None)
+    return least_lies(one, other, {letter: 1 for letter in joints})[0]
 
 
 def one_deed_less(one, other, prices, lie):
     """The places of one word at which a deed makes the value of a lie less by just its price."""
     check_lie(one, other, prices, lie)
-    costs = dict(prices)
-    value = value_of(one, other, lie, costs)
-    places = []
-    for place, letter in enumerate(one):
-        if letter in costs:
-            made, behind = sides_changed(one, place), (lie - place - 1) % (len(one) + 1)
-            if value_of(made, other, behind, costs) == value - costs[letter]:
-                places.append(place)
-    return places
+    return places_less(one, other, lie, dict(prices))
 
 
 def price_line(one, other, prices, letter):
     """How the cheapest price hangs on the price of one joint; None if there is no road."""
-    check_word(one)
-    check_word(other)
-    check_prices(prices)
+    check_two_priced(one, other, prices)
     if not is_letter(letter) or letter not in letters_priced(prices):
         raise InvalidJoints(letter)
     found = lies_leading(one, other, letters_priced(prices))
@@ -74,8 +57,9 @@ def price_line(one, other, prices, letter):
 def _lines_of(one, other, lie, costs, letter):
     """Tuples (base, rise) the least of which, base + rise * price, is the value of a lie at each price of a letter."""
     base = value_of(one, other, lie, {**costs, letter: 0})
-    rise = len([sign for sign, wanted in wrong_cells(one, other, lie) if sign == letter])
-    for lot in lots_tied(one, other, lie):
+    ties = word_ties(one, other, lie)
+    rise = len([sign for sign, _ in ties if sign == letter])
+    for lot in lots_of(ties):
         if letter in lot and "_" not in lot:
             others = min([costs[sign] for sign in lot if sign != letter])
             return [(base, rise + 1), (base + others, rise)]

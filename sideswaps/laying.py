@@ -2,7 +2,8 @@
 
 from sideswaps.errors import InvalidNumber
 from sideswaps.rings import ring_stars
-from sideswaps.words import check_prices, check_word, is_count, letters_priced
+from sideswaps.ties import exact_falls, ties_of, value_of_ties
+from sideswaps.words import check_two_priced, is_count, letters_priced, sides_changed
 
 
 def laid(one, lie):
@@ -50,34 +51,35 @@ def _cell_to_take(signs, wanted, hole):
 
 def check_lie(one, other, prices, lie):
     """Refuse what is no word, then no word, then no prices, then no lie of words of which one comes to the other."""
-    check_word(one)
-    check_word(other)
-    check_prices(prices)
+    check_two_priced(one, other, prices)
     if not is_count(lie) or lie not in lies_leading(one, other, letters_priced(prices)):
         raise InvalidNumber(lie)
 
 
-def wrong_cells(one, other, lie):
+def word_ties(one, other, lie):
     """For each wrong cell of a lie the tuple of its sign and its wanted one."""
-    return [(sign, wanted) for sign, wanted in zip(laid(one, lie), other + "_") if sign != wanted]
-
-
-def lots_tied(one, other, lie):
-    """The list of the lots of a lie, in order."""
-    lot_of = {}
-    for sign, wanted in wrong_cells(one, other, lie):
-        first, second = lot_of.get(sign, sign), lot_of.get(wanted, wanted)
-        if first != second:
-            joined = "".join(sorted(first + second))
-            for each in joined:
-                lot_of[each] = joined
-    return sorted(set(list(lot_of.values())))
+    return ties_of(laid(one, lie), other + "_")
 
 
 def value_of(one, other, lie, costs):
     """The value of a lie, by a dict of the price of each joint."""
-    value = sum([costs[sign] for sign, wanted in wrong_cells(one, other, lie) if sign != "_"])
-    for lot in lots_tied(one, other, lie):
-        if "_" not in lot:
-            value += min([costs[sign] for sign in lot])
-    return value
+    return value_of_ties(word_ties(one, other, lie), costs)
+
+
+def least_lies(one, other, costs):
+    """The least value of a lie by which one word comes to another one, None if there is none, and all such lies."""
+    found = lies_leading(one, other, "".join(list(costs)))
+    values = [value_of(one, other, lie, costs) for lie in found]
+    least = min(values, default=None)
+    return least, [lie for lie, value in zip(found, values) if value == least]
+
+
+def places_less(one, other, lie, costs):
+    """The places of a word, ascending, at which a deed makes the value of a lie less by just its price."""
+    falls = exact_falls(laid(one, lie), other + "_", costs)
+    return sorted([(cell - hole - 1) % (len(one) + 1) for cell, hole in falls])
+
+
+def behind_deed(word, lie, place):
+    """The tuple of the word that the deed at a place makes, and of the lie that a lie is then."""
+    return sides_changed(word, place), (lie - place - 1) % (len(word) + 1)

@@ -6,8 +6,12 @@ from sideswaps.rings import ring_stars, starred, turnings
 
 def patterns(word, joints):
     """The patterns of the class of a word, each once."""
-    ring = ring_stars(word, joints)
-    # Cells that a turning leads to each other give the same pattern, so one round of it is enough.
+    return rows_behind_stars(ring_stars(word, joints))
+
+
+def rows_behind_stars(ring):
+    """What stands behind each star of a ring, once round up to this star, each once."""
+    # Cells that a turning leads to each other give the same row, so one round of it is enough.
     period = len(ring) // turnings(ring).count(ring)
     return [ring[cell + 1:] + ring[:cell] for cell in range(period) if ring[cell] == "*"]
 
@@ -21,6 +25,28 @@ def filled(pattern, letters):
     """A pattern with as many letters in the places of its stars, one behind the other."""
     parts = pattern.split("*")
     return "".join([part + letter for part, letter in zip(parts, letters + [""])])
+
+
+def orders_told(letters):
+    """All orders of some letters that are in order, each once."""
+    orders = []
+    order = letters
+    while order is not None:
+        orders.append(order)
+        order = _next_order(order)
+    return orders
+
+
+def _next_order(letters):
+    """The next order of some letters, None behind the last one."""
+    falls = [spot for spot in range(len(letters) - 1) if letters[spot] < letters[spot + 1]]
+    if not falls:
+        return None
+    spot = falls[-1]
+    other = max([each for each in range(spot + 1, len(letters)) if letters[each] > letters[spot]])
+    made = list(letters)
+    made[spot], made[other] = made[other], made[spot]
+    return made[:spot + 1] + made[spot + 1:][::-1]
 
 
 def texts_over(signs, size):

@@ -2,7 +2,7 @@
 
 from sideswaps.counting import coprimes_of, divisors_of, orders_of
 from sideswaps.errors import InvalidJoints, TooMany
-from sideswaps.patterns import filled, letters_held, patterns
+from sideswaps.patterns import filled, letters_held, orders_told, patterns
 from sideswaps.rings import ring_turns
 from sideswaps.words import check_joints, check_word, is_joints
 
@@ -23,30 +23,8 @@ def class_words(word, joints):
     size = class_size(word, joints)
     if size > MOST_TOLD:
         raise TooMany(size)
-    orders = _orders_told(letters_held(word, joints))
+    orders = orders_told(letters_held(word, joints))
     return sorted([filled(pattern, order) for pattern in patterns(word, joints) for order in orders])
-
-
-def _orders_told(letters):
-    """All orders of some letters that are in order, each once."""
-    orders = []
-    order = letters
-    while order is not None:
-        orders.append(order)
-        order = _next_order(order)
-    return orders
-
-
-def _next_order(letters):
-    """The next order of some letters, None behind the last one."""
-    falls = [spot for spot in range(len(letters) - 1) if letters[spot] < letters[spot + 1]]
-    if not falls:
-        return None
-    spot = falls[-1]
-    other = max([each for each in range(spot + 1, len(letters)) if letters[each] > letters[spot]])
-    made = list(letters)
-    made[spot], made[other] = made[other], made[spot]
-    return made[:spot + 1] + made[spot + 1:][::-1]
 
 
 def parts_by(word, joints, fewer):

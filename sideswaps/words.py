@@ -75,6 +75,13 @@ def check_two(one, other, joints):
     check_joints(joints)
 
 
+def check_two_priced(one, other, prices):
+    """Refuse what is no word, then no word, then no prices."""
+    check_word(one)
+    check_word(other)
+    check_prices(prices)
+
+
 def is_ahead(one, other):
     """Whether one word is ahead of another one in the order of words."""
     check_word(one)

@@ -11,6 +11,10 @@ NOT_PRICES = [
     [("", 1)], [("X", 1)], [("y", 1), ("x", 1)], [("x", 1), ("x", 2)], [("x",)], [("x", 1, 1)], ["x1"],
     [("x", "1")], [(1, "x")], [None], [("x", 1), None], [(["x"], 1)],
 ]
+NOT_TRAINS = [
+    None, True, 1, "ab", ("ab",), {"ab": 1}, [], [None], [1], ["aB"], ["a_"], ["ab", "_"], ["ab", ["c"]], [("ab",)],
+    ["a"] * 13, ["ab", "c", True],
+]
 NOT_COUNTS = [None, True, False, -1, "1", "", [1], (1,), {}]
 NOT_LISTS = [None, True, 1, "ab", ("a",), {"a": 1}]
 
@@ -60,6 +64,91 @@ def plain_classes(words, joints):
             members = plain_class(word, joints)
             for each in members:
                 found[each] = members
+    return found
+
+
+def plain_cheapest_roads(one, other, prices):
+    """All roads that cost least, by going on from each word only with what can still be as cheap."""
+    costs = dict(prices)
+    left = plain_far(other, prices)
+    found = []
+    queue = [(one, [])] if one in left else []
+    while queue:
+        word, road = queue.pop()
+        if word == other:
+            found.append(road)
+            continue
+        for place, letter in enumerate(word):
+            if letter in costs:
+                made = plain_deed(word, place)
+                if left[made] == left[word] - costs[letter]:
+                    queue.append((made, road + [place]))
+    return sorted(found)
+
+
+def books_over(letters):
+    """All books of some letters, in the order of words."""
+    letters = sorted(set(letters))
+    return ["".join(each) for many in range(len(letters) + 1) for each in itertools.combinations(letters, many)]
+
+
+def plain_turnings(train):
+    """All turnings of a train."""
+    return [train[k:] + train[:k] for k in range(len(train))]
+
+
+def plain_first(train):
+    """The first turning of a train, as a tuple."""
+    return tuple(min(plain_turnings(list(train))))
+
+
+def plain_train_deeds(train, joints):
+    """All train deeds of a train, in order."""
+    return [(car, place, gap) for car in range(len(train)) for place in range(len(train[car]))
+            for gap in range(len(train)) if train[car][place] in joints]
+
+
+def plain_train_deed(train, deed):
+    """The train that a train deed makes, sign by sign."""
+    car, place, gap = deed
+    signs = []
+    for number, word in enumerate(train):
+        for spot, letter in enumerate(word):
+            if (number, spot) == (car, place):
+                start = len(signs)
+            signs.append(letter)
+        if number == gap:
+            hole = len(signs)
+        signs.append("_")
+    signs[start], signs[hole] = signs[hole], signs[start]
+    while signs[-1] != "_":
+        signs.insert(0, signs.pop())
+    return "".join(signs)[:-1].split("_")
+
+
+def plain_train_far(train, prices):
+    """The least price of a road to each first train that comes of a train, deed after deed tried."""
+    costs = dict(prices)
+    least = {}
+    queue = [(0, plain_first(train))]
+    while queue:
+        price, here = heapq.heappop(queue)
+        if here in least:
+            continue
+        least[here] = price
+        for deed in plain_train_deeds(here, costs):
+            made = plain_first(plain_train_deed(list(here), deed))
+            heapq.heappush(queue, (price + costs[here[deed[0]][deed[1]]], made))
+    return least
+
+
+def trains_up_to(letters, words, size):
+    """All trains of so many words that have at most so many letters together."""
+    found = []
+    for text in words_up_to(letters, size):
+        for cuts in itertools.combinations_with_replacement(range(len(text) + 1), words - 1):
+            ends = [0] + list(cuts) + [len(text)]
+            found.append([text[start:end] for start, end in zip(ends, ends[1:])])
     return found
 
 

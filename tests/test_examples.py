@@ -2,13 +2,20 @@
 
 import unittest
 
+from sideswaps.books import cheapest_book, cheapest_plan, least_books, lie_book
 from sideswaps.classes import bar, classes_of, comes, first_word, is_bar, last_word, leads_to, parted_by, road
+from sideswaps.farthest import dearest, farthest_word, spread, spread_of
 from sideswaps.fewest import cheapest, fewest_deeds, lie_value, lies, lots, one_deed_less, price_line
 from sideswaps.lengths import classes_by_size, first_words, how_many_classes, how_many_pairs
 from sideswaps.means import how_many_with, letters_at, mean_of
 from sideswaps.numbering import first_from, how_many_ahead, next_word, word_numbered
 from sideswaps.rings import is_alone, is_star_ring, one_deed, ring_turns, star_ring
+from sideswaps.roads import cheapest_road, first_deeds, how_many_cheapest, is_cheapest_road, road_along
 from sideswaps.sizes import class_size, class_words, parts_by
+from sideswaps.trainroads import first_train_deeds, is_cheapest, lie_lots, lie_values, train_distance, train_price
+from sideswaps.trainroads import train_road
+from sideswaps.trains import are_alike, first_train, how_many_lists, how_many_trains, is_train, is_train_road, train_back
+from sideswaps.trains import train_deeds, train_done, train_parting, train_ring, train_swapped, train_text, trains_of
 from sideswaps.words import back_road, done, is_ahead, is_joints, is_prices, is_road, is_word, joints_of, moved
 from sideswaps.words import open_places, passed, price_of, swapped
 
@@ -75,6 +82,66 @@ class ExamplesTest(unittest.TestCase):
         self.assertEqual(told, [[(1, 7, 2), (5, 15, 1)], [(1, 3, 0)]])
         fees = [("q", 1), ("w", 5), ("x", 1), ("y", 1), ("z", 1)]
         self.assertEqual(price_line("axxzwayyq", "ayyzwaxxq", fees, "x"), [(1, 5, 2), (2, 7, 1), (3, 8, 0)])
+
+    def test_roads(self):
+        fees = [("x", 3), ("y", 5)]
+        told = [cheapest_road("axby", "aybx", fees), road_along("axby", "aybx", fees, 0), first_deeds("axby", "aybx", fees),
+                first_deeds("axby", "aybx", [("x", 1), ("y", 1)])]
+        self.assertEqual(told, [[1, 1, 0], [1, 1, 0], [1], [1, 3]])
+        told = [is_cheapest_road("axby", "byxa", fees, [1]), is_cheapest_road("axby", "axby", fees, [1, 2]),
+                cheapest_road("ab", "ab", fees), cheapest_road("ab", "ba", fees)]
+        self.assertEqual(told, [True, False, [], None])
+        told = [how_many_cheapest("axby", "aybx", fees), how_many_cheapest("axby", "aybx", [("x", 1), ("y", 1)]),
+                how_many_cheapest("xyz", "yxz", [("x", 1), ("y", 1), ("z", 1)])]
+        self.assertEqual(told, [1, 2, 2])
+
+    def test_farthest(self):
+        fees = [("x", 3), ("y", 5)]
+        told = [spread("axby", "xy"), spread("axa", "x"), spread("xxxyy", "xy"), spread("xyxyx", "xy"), spread_of(2),
+                spread_of(4)]
+        self.assertEqual(told, [[1, 2, 2, 1], [1], [1, 4, 5], [1, 3, 6], [1, 2, 2, 1], [1, 4, 12, 30, 44, 26, 3]])
+        self.assertEqual([dearest("axby", fees), dearest("axa", [("x", 1)]), farthest_word("axby", fees)], [11, None, "aybx"])
+        told = [dearest("axbxcydye", [("x", 1), ("y", 1)]), dearest("axbxc", [("x", 2)]), spread("axbxc", "x"),
+                dearest("ab", fees)]
+        self.assertEqual(told, [5, 2, [1, 2], 0])
+
+    def test_trains(self):
+        told = [is_train([""]), is_train([]), train_text(["ab", "c"]), first_train(["b", "a", ""]),
+                are_alike(["a", "b"], ["b", "a"])]
+        self.assertEqual(told, [True, False, "ab_c_", ["", "b", "a"], True])
+        told = [train_swapped(["ab", "c"], "abc", (0, 1, 1)), train_swapped(["ab", "c"], "abc", (0, 1, 0)),
+                train_back(["ab", "c"], "abc", (0, 1, 1)), train_deeds(["ab", "c"], "b")]
+        self.assertEqual(told, [["cba", ""], ["a", "bc"], (0, 1, 0), [(0, 1, 0), (0, 1, 1)]])
+        told = [is_train_road(["ab"], "b", [(0, 1, 0), (0, 1, 0)]), train_done(["axb", "c"], "x", [(0, 1, 1), (0, 1, 0)]),
+                train_ring(["axb", "c"], "x")]
+        self.assertEqual(told, [False, ["c", "axb"], "*a*b*c"])
+        told = [train_parting(["a", "b"], ["ab"], "ab"), train_parting(["ab", "c"], ["ac", "b"], ""),
+                train_parting(["ax", ""], ["ay", ""], "xy"), train_parting(["a", "b"], ["ab", ""], "a")]
+        self.assertEqual(told, [("cars", 2, 1), ("ring", "*ab*c", "*ac*b"), ("joint", "x", 1, 0), None])
+        told = [how_many_trains(["axb", "c"], "x"), how_many_lists(["axb", "c"], "x"), how_many_trains(["x", "x"], "x"),
+                trains_of(["x", "x"], "x")]
+        self.assertEqual(told, [3, 6, 2, [["", "xx"], ["x", "x"]]])
+
+    def test_train_roads(self):
+        prices, one, other = [("a", 1), ("b", 5)], ["ab", ""], ["ba", ""]
+        told = [lie_values(one, other, prices), lie_lots(one, other, prices, 0), train_distance(one, other, prices),
+                first_train_deeds(one, other, prices)]
+        self.assertEqual(told, [[7, 1, 6, 5], ["ab"], 1, [(0, 0, 0)]])
+        told = [is_cheapest(one, other, prices, train_road(one, other, prices)), train_price(one, prices, [(0, 0, 0)]),
+                train_distance(["a"], ["a", ""], prices), first_train_deeds(one, one, prices)]
+        self.assertEqual(told, [True, 1, None, []])
+
+    def test_books(self):
+        told = [least_books("abc", "cba"), least_books("abc", "bca"), least_books("abc", "abd"), least_books("aab", "aab"),
+                least_books("", "")]
+        self.assertEqual(told, [["b", "ac"], ["a", "bc"], [], [""], [""]])
+        told = [[lie_book("abc", "cba", lie) for lie in range(4)],
+                cheapest_book("abc", "cba", [("a", 1), ("b", 5), ("c", 1)])]
+        self.assertEqual(told, [["ac", "abc", "b", "abc"], (2, "ac")])
+        fees, prices = [("a", 1), ("b", 5), ("c", 1)], [("a", 1), ("b", 1), ("c", 1)]
+        told = [cheapest_plan("abc", "cba", fees, prices), cheapest_plan("abc", "cba", fees, [("b", 9)]),
+                cheapest_plan("abc", "cba", fees, [("a", 3)])]
+        self.assertEqual(told, [(5, "ac"), (14, "b"), None])
 
 
 if __name__ == "__main__":
