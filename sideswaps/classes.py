@@ -2,7 +2,7 @@
 
 from sideswaps.errors import InvalidList
 from sideswaps.laying import joints_even, lies_leading, road_by
-from sideswaps.patterns import filled, letters_held, patterns, texts_over
+from sideswaps.patterns import filled, letters_held, numbers_by_class, patterns, texts_over
 from sideswaps.rings import star_ring, starred
 from sideswaps.words import check_joints, check_two, check_word, done, is_count, is_letter, is_road
 
@@ -87,11 +87,7 @@ def classes_of(words, joints):
     for word in words:
         check_word(word)
     check_joints(joints)
-    found = {}
-    for number, word in enumerate(words):
-        key = (star_ring(word, joints), "".join(letters_held(word, joints)))
-        found.setdefault(key, []).append(number)
-    return list(found.values())
+    return numbers_by_class(words, joints)
 
 
 def parted_by(one, other, joints):

@@ -28,7 +28,7 @@ def ways_to_share(many, kinds):
     return comb(many + kinds - 1, many)
 
 
-def _power(base, times):
+def power(base, times):
     """A number so many times by itself."""
     many = 1
     for _ in range(times):
@@ -38,7 +38,7 @@ def _power(base, times):
 
 def _texts_not_repeated(cells, stars, bodies):
     """How many texts with so many stars, all else of so many bodies, are no shorter text several times over."""
-    many = comb(cells, stars) * _power(bodies, cells - stars)
+    many = comb(cells, stars) * power(bodies, cells - stars)
     for times in divisors_of(gcd(cells, stars))[1:]:
         many -= _texts_not_repeated(cells // times, stars // times, bodies)
     return many

@@ -21,6 +21,15 @@ def letters_held(word, joints):
     return sorted([letter for letter in word if letter in joints])
 
 
+def numbers_by_class(words, joints):
+    """The lists of the numbers of those of some words that belong to one class, ordered by their first numbers."""
+    found = {}
+    for number, word in enumerate(words):
+        key = (min(turnings(ring_stars(word, joints))), "".join(letters_held(word, joints)))
+        found.setdefault(key, []).append(number)
+    return list(found.values())
+
+
 def filled(pattern, letters):
     """A pattern with as many letters in the places of its stars, one behind the other."""
     parts = pattern.split("*")

@@ -4,6 +4,8 @@ import copy
 import heapq
 import itertools
 
+from sideswaps.machines import Machine
+
 NOT_WORDS = [None, True, 3, "aB", "a b", "a_", "*", "`", "{", "a1", ["a"], ("a",), {"a": 1}]
 NOT_JOINTS = NOT_WORDS + ["yx", "xx", "axx"]
 NOT_PRICES = [
@@ -15,6 +17,7 @@ NOT_TRAINS = [
     None, True, 1, "ab", ("ab",), {"ab": 1}, [], [None], [1], ["aB"], ["a_"], ["ab", "_"], ["ab", ["c"]], [("ab",)],
     ["a"] * 13, ["ab", "c", True],
 ]
+NOT_MACHINES = [None, True, 1, "ax", [], ("ax", [[0, 0]], [0]), ["ax", [[0, 0]], [0]], {"ax": 1}]
 NOT_COUNTS = [None, True, False, -1, "1", "", [1], (1,), {}]
 NOT_LISTS = [None, True, 1, "ab", ("a",), {"a": 1}]
 
@@ -150,6 +153,22 @@ def trains_up_to(letters, words, size):
             ends = [0] + list(cuts) + [len(text)]
             found.append([text[start:end] for start, end in zip(ends, ends[1:])])
     return found
+
+
+def drawn_machine(draw, letters, states):
+    """Any machine with so many states."""
+    moves = [[draw.randrange(states) for _ in letters] for _ in range(states)]
+    return Machine(letters, moves, [state for state in range(states) if draw.random() < 0.5])
+
+
+def plain_lets(machine, word):
+    """Whether a word is let, letter by letter."""
+    state = 0
+    for letter in word:
+        if letter not in machine.letters():
+            return False
+        state = machine.moves()[state][machine.letters().index(letter)]
+    return state in machine.ends()
 
 
 def check_refusals(case, function, good, wrong):

@@ -2,12 +2,17 @@
 
 import unittest
 
+from sideswaps.bookpairs import book_within, books_alike, books_tried, explaining, outside_words, parting_words
 from sideswaps.books import cheapest_book, cheapest_plan, least_books, lie_book
 from sideswaps.classes import bar, classes_of, comes, first_word, is_bar, last_word, leads_to, parted_by, road
+from sideswaps.closures import beyond_one, firm_one, within_one
 from sideswaps.farthest import dearest, farthest_word, spread, spread_of
 from sideswaps.fewest import cheapest, fewest_deeds, lie_value, lies, lots, one_deed_less, price_line
 from sideswaps.lengths import classes_by_size, first_words, how_many_classes, how_many_pairs
+from sideswaps.machines import Machine, closed_joints, first_barred, first_let, how_many_let, least_machine, led_out, lets
+from sideswaps.machines import road_into
 from sideswaps.means import how_many_with, letters_at, mean_of
+from sideswaps.mirrors import cheapest_mirrored, comes_mirrored, mirrored_size
 from sideswaps.numbering import first_from, how_many_ahead, next_word, word_numbered
 from sideswaps.rings import is_alone, is_star_ring, one_deed, ring_turns, star_ring
 from sideswaps.roads import cheapest_road, first_deeds, how_many_cheapest, is_cheapest_road, road_along
@@ -142,6 +147,39 @@ class ExamplesTest(unittest.TestCase):
         told = [cheapest_plan("abc", "cba", fees, prices), cheapest_plan("abc", "cba", fees, [("b", 9)]),
                 cheapest_plan("abc", "cba", fees, [("a", 3)])]
         self.assertEqual(told, [(5, "ac"), (14, "b"), None])
+
+    def test_book_pairs_and_mirrors(self):
+        told = [books_tried([("abc", "cba")], [("abc", "bca")]), explaining([("abc", "cba")], [("abc", "bca")]),
+                books_tried([("ab", "ac")], [])]
+        self.assertEqual(told, [[("b", None), ("ac", 0)], ["b"], []])
+        told = [books_alike("a", "b", "ab", 2), books_alike("a", "b", "ab", 10 ** 20), parting_words("a", "b", "ab", 3),
+                outside_words("b", "a", "ab", 3)]
+        self.assertEqual(told, [True, False, ("aab", "aba"), ("abb", "bab")])
+        told = [book_within("a", "ac", "abc", 7), comes_mirrored("abcd", "dcba", "", "a"), mirrored_size("abcd", "", "a"),
+                mirrored_size("abcd", "", "x")]
+        self.assertEqual(told, [True, True, 2, 1])
+        told = [cheapest_mirrored("abc", "cba", [("b", 4)], [("a", 3)]), cheapest_mirrored("abc", "cba", [("b", 3)], [("a", 3)]),
+                cheapest_mirrored("ab", "ba", [], [])]
+        self.assertEqual(told, [(3, 1), (3, 0), None])
+
+    def test_machines_and_closures(self):
+        even, starts = Machine("ax", [[1, 0], [0, 1]], [0]), Machine("ax", [[1, 2], [1, 1], [2, 2]], [1])
+        told = [lets(even, "axa"), lets(starts, "xa"), lets(starts, "ab"),
+                least_machine(Machine("ax", [[2, 1], [1, 1], [2, 2]], [2])) == starts]
+        self.assertEqual(told, [True, False, False, True])
+        told = [closed_joints(even), led_out(even, "ax"), closed_joints(starts), led_out(starts, "x"), led_out(starts, "a"),
+                led_out(starts, "z")]
+        self.assertEqual(told, ["ax", None, "", ("ax", 1), ("ax", 0), None])
+        told = [how_many_let(starts, "xaax", "x"), first_let(starts, "xaax", "x"), first_barred(starts, "xaax", "x"),
+                first_let(starts, "xx", "x"), road_into(starts, "xaax", "x", 3)]
+        self.assertEqual(told, [1, "aaxx", "xaax", None, [0]])
+        some, firm = Machine("ax", [[1, 0], [1, 1]], [1]), Machine("ax", [[1, 2], [1, 0], [2, 2]], [1])
+        told = [within_one(starts, "x") == some, firm_one(starts, "x") == firm, led_out(some, "x"), led_out(firm, "x"),
+                within_one(starts, "ax") == some, firm_one(even, "ax") == even]
+        self.assertEqual(told, [True, True, None, None, True, True])
+        told = [beyond_one(some, starts, "x"), beyond_one(even, starts, "x"), beyond_one(some, firm, "ax"),
+                within_one(starts, "") == starts]
+        self.assertEqual(told, [None, "", "ax", True])
 
 
 if __name__ == "__main__":

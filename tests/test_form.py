@@ -30,6 +30,15 @@ def bound_names(nodes):
     return names + [node.id for node in nodes if isinstance(node, ast.Name) and isinstance(node.ctx, ast.Store)]
 
 
+def own_methods():
+    """The names of the methods of all classes of the package."""
+    classes = [node for path in FILES for node in nodes_of(path) if isinstance(node, ast.ClassDef)]
+    return {node.name for each in classes for node in each.body if isinstance(node, ast.FunctionDef)}
+
+
+OWN_METHODS = own_methods()
+
+
 class FormTest(unittest.TestCase):
     def test_folder(self):
         for path in PACKAGE.rglob("*"):
@@ -105,7 +114,7 @@ class FormTest(unittest.TestCase):
                 if isinstance(node, ast.BinOp) and isinstance(node.op, ast.Pow):
                     self.assertIsInstance(node.right, ast.Constant, path)
                 if isinstance(node, ast.Call) and isinstance(node.func, ast.Attribute):
-                    self.assertIn(node.func.attr, METHODS, path)
+                    self.assertIn(node.func.attr, METHODS | OWN_METHODS, path)
 
 
 if __name__ == "__main__":

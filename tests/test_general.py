@@ -7,6 +7,9 @@ import signal
 import time
 import unittest
 
+from sideswaps.errors import TooMany
+from sideswaps.machines import Machine
+
 # How long one call at the limits may take, far above what it does take.
 SECONDS = 10
 FEES = [("x", 3), ("y", 5)]
@@ -15,6 +18,11 @@ ALL_FEES = [(letter, 10 ** 30 - 1 - k) for k, letter in enumerate(ALPHABET)]
 LONGEST = (ALPHABET * 12)[:300]
 # A ring of 200 stars that 20 turnings leave as it is.
 RING_OF_20 = ("x" * 10 + "a") * 20
+EVEN = Machine("ax", [[1, 0], [0, 1]], [0])
+STARTS = Machine("ax", [[1, 2], [1, 1], [2, 2]], [1])
+ROUND = Machine("wxyz", [[(k + 1) % 60, (k + 59) % 60, k, 0] for k in range(60)], [0, 59])
+TWELVE = Machine("wxyz", [[(k + 1) % 12, 5 * k % 12, (k * k + 3) % 12, 11 - k] for k in range(12)], [1, 4, 5, 9])
+WAYS_600 = Machine("abc", [[3, 0, 2], [2, 4, 2], [2, 3, 4], [5, 0, 1], [0, 0, 4], [0, 2, 1]], [2, 5])
 # The interface: for each module each function with arguments by name, and with arguments at its limits.
 CALLS = {
     "words": [
@@ -176,7 +184,63 @@ CALLS = {
         ("cheapest_plan", {"word": "abc", "other": "cba", "fees": [("b", 5)], "prices": [("b", 9)]},
          {"word": LONGEST[:60], "other": LONGEST[59::-1], "fees": ALL_FEES, "prices": ALL_FEES}),
     ],
+    "bookpairs": [
+        ("books_tried", {"pairs": [("abc", "cba")], "refused": [("abc", "bca")]},
+         {"pairs": [("abcdefgh" * 7 + "abcd", "dcba" + "hgfedcba" * 7)] * 6,
+          "refused": [("abcdefgh" * 7 + "abcd", "dcba" + "hgfecdba" * 7)] * 6}),
+        ("explaining", {"pairs": [("abc", "cba")], "refused": [("abc", "bca")]},
+         {"pairs": [("abcdefgh", "badcfehg"), ("abcdefgh", "hgfedcba"), ("abcdefgh", "efghabcd")] * 2,
+          "refused": [("abcdefgh", "bcdefgha")] * 6}),
+        ("books_alike", {"one": "a", "other": "b", "letters": "ab", "size": 3},
+         {"one": ALPHABET, "other": ALPHABET[1:], "letters": ALPHABET, "size": 10 ** 30 - 1}),
+        ("book_within", {"one": "a", "other": "b", "letters": "ab", "size": 3},
+         {"one": ALPHABET, "other": ALPHABET[1:], "letters": ALPHABET, "size": 10 ** 30 - 1}),
+        ("parting_words", {"one": "a", "other": "b", "letters": "ab", "size": 3},
+         {"one": "a", "other": "ab", "letters": "ab", "size": 11}),
+        ("outside_words", {"one": "a", "other": "b", "letters": "ab", "size": 3},
+         {"one": "abcdef", "other": "abcde", "letters": ALPHABET[:14], "size": 3}),
+    ],
+    "mirrors": [
+        ("comes_mirrored", {"word": "abxc", "other": "cxba", "joints": "x", "mirrors": "a"},
+         {"word": LONGEST[:60], "other": LONGEST[59::-1], "joints": ALPHABET[:13], "mirrors": ALPHABET[13:]}),
+        ("mirrored_size", {"word": "abxc", "joints": "x", "mirrors": "a"},
+         {"word": LONGEST[:60], "joints": ALPHABET[:13], "mirrors": ALPHABET[13:]}),
+        ("cheapest_mirrored", {"word": "abxc", "other": "cxba", "prices": [("x", 2)], "mirrors": [("a", 3)]},
+         {"word": LONGEST[:60], "other": LONGEST[59::-1], "prices": ALL_FEES[:13], "mirrors": ALL_FEES[13:]}),
+    ],
+    "machines": [
+        ("Machine", {"letters": "ax", "moves": [[1, 0], [0, 1]], "ends": [0]},
+         {"letters": "wxyz", "moves": [[k, 0, 59, 59 - k] for k in range(60)], "ends": list(range(60))}),
+        ("lets", {"machine": EVEN, "word": "axa"}, {"machine": ROUND, "word": "wxyz" * 75}),
+        ("least_machine", {"machine": EVEN}, {"machine": ROUND}),
+        ("led_out", {"machine": STARTS, "joints": "ax"}, {"machine": WAYS_600, "joints": "abc"}),
+        ("closed_joints", {"machine": STARTS}, {"machine": WAYS_600}),
+        ("how_many_let", {"machine": STARTS, "word": "xaax", "joints": "x"},
+         {"machine": TWELVE, "word": "wxyz" * 6, "joints": "wxyz"}),
+        ("first_let", {"machine": STARTS, "word": "xaax", "joints": "x"},
+         {"machine": TWELVE, "word": "xyz" * 7 + "www", "joints": "xyz"}),
+        ("first_barred", {"machine": STARTS, "word": "xaax", "joints": "x"},
+         {"machine": TWELVE, "word": "xyzxyzwxyzxywzxyzxyzwxyz", "joints": "xyz"}),
+        ("road_into", {"machine": STARTS, "word": "xaax", "joints": "x", "most": 3},
+         {"machine": Machine("wxyz", [[0] * 4], []), "word": "wxyyzwzxwyzxwwzyxzzwyxxy", "joints": "wxyz", "most": 3}),
+    ],
+    "closures": [
+        ("within_one", {"machine": STARTS, "joints": "x"},
+         {"machine": Machine("abc", [[0, 2, 1], [2, 1, 1], [0, 1, 2]], [0]), "joints": "c"}),
+        ("firm_one", {"machine": STARTS, "joints": "x"},
+         {"machine": Machine("abc", [[1, 2, 1], [2, 0, 0], [0, 1, 1]], [0, 2]), "joints": "abc"}),
+        ("beyond_one", {"one": EVEN, "other": STARTS, "joints": "x"},
+         {"one": TWELVE, "other": Machine("wxyz", [[1, 2, 0, 1], [2, 1, 1, 0], [0, 1, 2, 2]], [0]), "joints": "wxy"}),
+    ],
 }
+# Also what is refused at the limits is refused in time.
+REFUSED = [
+    ("closures", "within_one", Machine("abcd", [[0, 1, 2, 0], [1, 1, 0, 2], [2, 0, 1, 1]], [0]), "abd"),
+    ("closures", "firm_one", Machine("abcd", [[0, 1, 2, 0], [1, 1, 0, 2], [2, 0, 1, 1]], [0, 1]), "bcd"),
+    ("machines", "led_out", Machine("ab", [[1, 1], [2, 0]] + [[k + 1, k] for k in range(2, 11)] + [[0, 11]], [0]), "ab"),
+    ("trains", "trains_of", ["xy" * 12] * 12, "xy"), ("farthest", "spread", "xy" * 150, "xy"),
+    ("bookpairs", "parting_words", "a", "b", ALPHABET, 60), ("lengths", "first_words", ALPHABET, ALPHABET, 12),
+]
 
 
 def each_call():
@@ -247,10 +311,21 @@ class GeneralTest(unittest.TestCase):
                 self.check_kinds(function(**arguments))
 
     def check_kinds(self, value):
-        self.assertIn(value.__class__, (type(None), bool, str, int, tuple, list))
+        self.assertIn(value.__class__, (type(None), bool, str, int, tuple, list, Machine))
         if isinstance(value, (list, tuple)):
             for item in value:
                 self.check_kinds(item)
+
+    def test_methods_stand_in_their_class(self):
+        for name in ("letters", "moves", "ends", "__eq__"):
+            self.assertIn(name, vars(Machine))
+
+    def test_refused_within_seconds(self):
+        for module, name, *arguments in REFUSED:
+            begun = time.perf_counter()
+            with self.assertRaises(TooMany, msg=name):
+                getattr(importlib.import_module("sideswaps." + module), name)(*arguments)
+            self.assertLess(time.perf_counter() - begun, SECONDS, name)
 
     def test_whether(self):
         for function, ordinary, _ in each_call():
