@@ -89,7 +89,8 @@ def beyond_one(one, other, joints):
 
 def _first_word_apart(table, other, letters):
     """The first word that one table lets and another one does not, None if there is none."""
-    (moves, let), (rows, within) = table, other
+    moves, let = table
+    rows, within = other
     words = {(0, 0): ""}
     order = [(0, 0)]
     spot = 0

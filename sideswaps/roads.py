@@ -7,7 +7,7 @@ from sideswaps.errors import InvalidWord
 from sideswaps.fewest import cheapest
 from sideswaps.laying import behind_deed, check_lie, least_lies, places_less, word_ties
 from sideswaps.ties import lots_of
-from sideswaps.words import check_two_priced, letters_priced, price_of
+from sideswaps.words import check_two_priced, letters_priced, price_of, sides_changed
 
 
 def road_along(one, other, prices, lie):
@@ -47,7 +47,7 @@ def cheapest_road(one, other, prices):
         place = min([places[0] for _, places in steps])
         road.append(place)
         left = [behind_deed(word, lie, place)[1] for lie, places in steps if place in places]
-        word = behind_deed(word, 0, place)[0]
+        word = sides_changed(word, place)
     return road
 
 

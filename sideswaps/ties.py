@@ -62,12 +62,11 @@ def _cheapest_of_lots(lots, costs):
 
 def _stays_whole(ties, tie):
     """Whether no lot is cut off the hole when the joint of a tie goes where the hole stands and it is wanted."""
-    joint, wanted = tie
     left = list(ties)
-    left.remove(("_", joint))
+    left.remove(("_", tie[0]))
     left.remove(tie)
-    if wanted != "_":
-        left.append(("_", wanted))
+    # The hole is then tied to what was wanted where the joint stood; but this is tied to it by others anyway, as each
+    # sign is wanted as often as it stands there.
     return _without_hole(left) == _without_hole(ties)
 
 

@@ -149,7 +149,7 @@ class ComparedTest(unittest.TestCase):
             self.assertIsNone(function("a", "", "", 0))
 
     def test_about_3000(self):
-        for letters, size, many in [("ab", 12, 4096), (ALPHABET[:15], 3, 3375), (ALPHABET, 60, 26 ** 60), ("abc", 8, 6561)]:
+        for letters, size, many in [("ab", 12, 4096), ("abcde", 5, 3125), (ALPHABET[:15], 3, 3375), (ALPHABET, 60, 26 ** 60), ("abc", 8, 6561)]:
             for one, other in [("a", "b"), ("a", "a"), ("", "ab")]:
                 for function in (parting_words, outside_words):
                     with self.assertRaises(TooMany) as caught:

@@ -227,8 +227,8 @@ class ClassTest(unittest.TestCase):
         for number in range(40):
             letters = draw.choice(["a", "ax", "axy"])
             machine = drawn_machine(draw, letters, 1 + number % 5)
-            for word in draw.sample(words_up_to(letters, 5), 6):
-                for joints in books_over(letters + "z")[::2]:
+            for word in draw.sample(words_up_to(letters, 5), 5):
+                for joints in ("", letters, letters[1:], letters[-1] + "z"):
                     members = plain_class(word, joints)
                     let = [each for each in members if plain_lets(machine, each)]
                     barred = [each for each in members if not plain_lets(machine, each)]
@@ -243,6 +243,15 @@ class ClassTest(unittest.TestCase):
         self.assertEqual([how_many_let(EVEN, "", "x"), first_let(EVEN, "", "x"), first_barred(EVEN, "", "x")], [1, "", None])
         self.assertEqual([how_many_let(EVEN, "aaxx", "ax"), first_barred(EVEN, "aaxx", "ax")], [6, None])
         self.assertEqual([how_many_let(EVEN, "axx", "ax"), first_let(EVEN, "axx", "ax")], [0, None])
+
+    def test_few_of_some_joints(self):
+        draw = random.Random(11)
+        for word in ("wwwwxy", "xxwxxy", "yyywyx", "wxyz", "zzzwxy", "wwxyzz", "awxaya"):
+            for _ in range(6):
+                machine = drawn_machine(draw, "awxy" if "a" in word else "wxyz", 4)
+                let = [each for each in plain_class(word, "wxyz") if plain_lets(machine, each)]
+                self.assertEqual(how_many_let(machine, word, "wxyz"), len(let))
+                self.assertEqual(first_let(machine, word, "wxyz"), min(let, default=None))
 
     def test_24_letters(self):
         draw = random.Random(7)

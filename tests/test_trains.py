@@ -245,9 +245,11 @@ class TrainClassTest(unittest.TestCase):
     def test_refused(self):
         for function in (train_ring, how_many_trains, how_many_lists, trains_of):
             check_refusals(self, function, TRAIN, TRAIN_WRONG)
-        check_refusals(self, train_parting, {"one": ["ab", "c"], "other": ["ac", "b"], "joints": "b"},
-                       {"one": (InvalidTrain, NOT_TRAINS), "other": (InvalidTrain, NOT_TRAINS),
-                        "joints": (InvalidJoints, NOT_JOINTS)})
+        # The joints are refused also where the trains have unlike numbers of words.
+        for other in (["ac", "b"], ["ab"]):
+            check_refusals(self, train_parting, {"one": ["ab", "c"], "other": other, "joints": "b"},
+                           {"one": (InvalidTrain, NOT_TRAINS), "other": (InvalidTrain, NOT_TRAINS),
+                            "joints": (InvalidJoints, NOT_JOINTS)})
 
     def test_arguments_stay(self):
         train, deeds = ["axb", "c"], [(0, 1, 1), (0, 1, 0)]
