@@ -48,11 +48,14 @@ def orders_told(letters):
 
 def _next_order(letters):
     """The next order of some letters, None behind the last one."""
-    falls = [spot for spot in range(len(letters) - 1) if letters[spot] < letters[spot + 1]]
-    if not falls:
+    spot = len(letters) - 2
+    while spot >= 0 and letters[spot] >= letters[spot + 1]:
+        spot -= 1
+    if spot < 0:
         return None
-    spot = falls[-1]
-    other = max([each for each in range(spot + 1, len(letters)) if letters[each] > letters[spot]])
+    other = len(letters) - 1
+    while letters[other] <= letters[spot]:
+        other -= 1
     made = list(letters)
     made[spot], made[other] = made[other], made[spot]
     return made[:spot + 1] + made[spot + 1:][::-1]

@@ -198,3 +198,39 @@ def _check_refused(case, function, arguments, error, value):
             case.assertIs(caught.exception.__class__, error)
             case.assertIs(caught.exception.value, value)
             case.assertEqual(arguments, kept)
+
+
+def is_let(size, place, widths):
+    """Whether a deed at a place of a word of so many letters is let."""
+    return place + 1 in widths or size - place in widths
+
+
+def plain_let_class(word, joints, widths):
+    """All words that come of a word by let deeds, deed after deed tried."""
+    found, queue = {word}, [word]
+    while queue:
+        here = queue.pop()
+        for place, letter in enumerate(here):
+            if letter in joints and is_let(len(here), place, widths):
+                made = plain_deed(here, place)
+                if made not in found:
+                    found.add(made)
+                    queue.append(made)
+    return found
+
+
+def plain_let_rings(word, joints, widths):
+    """All rings, read from the first cell on, that come of that of a word by let jumps, jump after jump tried."""
+    found, queue = {word + "_"}, [word + "_"]
+    while queue:
+        here = queue.pop()
+        hole, size = here.index("_"), len(here)
+        for cell, sign in enumerate(here):
+            if sign in joints and (abs(cell - hole) in widths or size - abs(cell - hole) in widths):
+                signs = list(here)
+                signs[hole], signs[cell] = sign, "_"
+                made = "".join(signs)
+                if made not in found:
+                    found.add(made)
+                    queue.append(made)
+    return found

@@ -2,18 +2,25 @@
 
 import unittest
 
+from sideswaps.blocks import block_orders, blocks, jump_bars, jump_size, jumps_lead
 from sideswaps.bookpairs import book_within, books_alike, books_tried, explaining, outside_words, parting_words
 from sideswaps.books import cheapest_book, cheapest_plan, least_books, lie_book
 from sideswaps.classes import bar, classes_of, comes, first_word, is_bar, last_word, leads_to, parted_by, road
 from sideswaps.closures import beyond_one, firm_one, within_one
 from sideswaps.farthest import dearest, farthest_word, spread, spread_of
 from sideswaps.fewest import cheapest, fewest_deeds, lie_value, lies, lots, one_deed_less, price_line
+from sideswaps.jointnumbers import done_by_numbers, done_by_numbers_often, numbers_of, numbers_order, numbers_parting
+from sideswaps.jointnumbers import road_of
+from sideswaps.jumps import is_let_road, let_places, shuffle
 from sideswaps.lengths import classes_by_size, first_words, how_many_classes, how_many_pairs
 from sideswaps.machines import Machine, closed_joints, first_barred, first_let, how_many_let, least_machine, led_out, lets
 from sideswaps.machines import road_into
 from sideswaps.means import how_many_with, letters_at, mean_of
 from sideswaps.mirrors import cheapest_mirrored, comes_mirrored, mirrored_size
 from sideswaps.numbering import first_from, how_many_ahead, next_word, word_numbered
+from sideswaps.oftens import done_often, ever_places, moves_often, order_of, places_often, times_needed, word_order
+from sideswaps.programs import done_by, fewest_places, first_program, how_many_programs, joined_program, joint_places
+from sideswaps.programs import moves_of, parting_by, programs_alike, undone
 from sideswaps.rings import is_alone, is_star_ring, one_deed, ring_turns, star_ring
 from sideswaps.roads import cheapest_road, first_deeds, how_many_cheapest, is_cheapest_road, road_along
 from sideswaps.sizes import class_size, class_words, parts_by
@@ -180,6 +187,50 @@ class ExamplesTest(unittest.TestCase):
         told = [beyond_one(some, starts, "x"), beyond_one(even, starts, "x"), beyond_one(some, firm, "ax"),
                 within_one(starts, "") == starts]
         self.assertEqual(told, [None, "", "ax", True])
+
+    def test_programs(self):
+        told = [moves_of(4, [1]), moves_of(4, [1, 0]), done_by("abcd", [1]), done_by("abcd", [1, 0]), moves_of(3, [])]
+        self.assertEqual(told, [[2, 3, 1, 0], [3, 1, 0, 2], "cdba", "dbac", [0, 1, 2]])
+        told = [parting_by(3, [0], [2]), parting_by(3, [0, 0, 0], []), undone(4, [1, 0]), joint_places(4, [1, 0]),
+                joint_places(4, [1, 2])]
+        self.assertEqual(told, ["aab", None, [3, 2], [1, 2], [1]])
+        told = [fewest_places([0, 1, 2]), fewest_places([2, 1, 0]), first_program([2, 1, 0]), fewest_places([1, 0, 2]),
+                joined_program(3, [0], [0])]
+        self.assertEqual(told, [0, 1, [1], 2, [2]])
+        told = [how_many_programs([0, 1, 2]), how_many_programs([1, 0, 2]), how_many_programs([1, 0, 2, 3]),
+                programs_alike(3, [[0], [], [2, 2], [1, 1]])]
+        self.assertEqual(told, [1, 2, 4, [[0, 2], [1, 3]]])
+        told = [order_of(4, [1]), order_of(5, [1]), order_of(5, [2]), moves_often(5, [2], 10 ** 20),
+                done_often("abcde", [1], 5), word_order("aabaa", [2])]
+        self.assertEqual(told, [4, 6, 2, [0, 1, 2, 3, 4], "edabc", 1])
+        told = [places_often(5, [2], 7), places_often(5, [1], 1), ever_places(5, [1]), times_needed(5, [1])]
+        self.assertEqual(told, [[2], [1], [1, 3], 2])
+
+    def test_number_lists(self):
+        told = [done_by_numbers("axbyc", "xy", [0]), done_by_numbers("axbyc", "xy", [1, 1]),
+                road_of("axbyc", "xy", [0, 1]), numbers_of("axbyc", "xy", [1, 1])]
+        self.assertEqual(told, ["bycxa", "bxcya", [1, 3], [0, 0]])
+        told = [done_by_numbers_often("aaxbbxcc", "x", [0], 10 ** 20 + 1), numbers_parting("xy", 2, [0], [1]),
+                numbers_parting("ab", 2, [0], [1]), numbers_parting("x", 2, [0, 0, 0], [])]
+        self.assertEqual(told, ["ccxaaxbb", "axx", "aac", None])
+        told = [numbers_parting("xy", 3, [0], [1]), numbers_order(2, [0]), numbers_order(3, [1]), numbers_order(4, [1, 0])]
+        self.assertEqual(told, ["xxy", 6, 2, 15])
+
+    def test_jumps(self):
+        far = "uvwxaayazaa"
+        told = [let_places("xyz", "xyz", [1]), let_places("axby", "xy", [2]), is_let_road("xyz", "xyz", [1], [0, 0]),
+                is_let_road("xyz", "xyz", [1], [1])]
+        self.assertEqual(told, [[0, 2], [1], True, False])
+        told = [shuffle(4, [1]), shuffle(5, [2]), shuffle(5, [1, 3]), shuffle(5, [1, 2]), shuffle(7, [2, 4]), shuffle(3, [7])]
+        self.assertEqual(told, [("round", 4), ("round", 6), ("even", 60), ("all", 120), ("all", 24), ("none", 1)])
+        told = [blocks("xyz", "xyz", [1]), blocks("xyz", "xyz", [1, 2]), blocks("axb", "x", [1]), blocks(far, "uvwxyz", [2, 3])]
+        self.assertEqual(told, [[([0, 1, 2, 3], "round")], [([0, 1, 2, 3], "all")], [],
+                                [([0, 1, 2, 3, 6, 8, 11], "seven")]])
+        told = [jump_size("xyz", "xyz", [1]), jump_size("xyz", "xyz", [1, 2]), jump_size("xxy", "xy", [1, 2]),
+                jump_size(far, "uvwxyz", [2, 3]), block_orders("xyz", "xyz", [1], 0)]
+        self.assertEqual(told, [3, 6, 3, 840, [["x", "y", "z"], ["y", "z", "x"], ["z", "x", "y"]]])
+        told = [jumps_lead("xyz", "yzx", "xyz", [1]), jumps_lead("xyz", "xzy", "xyz", [1]), jump_bars("axb", "bxa", "x", [1])[0]]
+        self.assertEqual(told, [True, False, (0, "bodies", [0, 2])])
 
 
 if __name__ == "__main__":

@@ -23,6 +23,10 @@ STARTS = Machine("ax", [[1, 2], [1, 1], [2, 2]], [1])
 ROUND = Machine("wxyz", [[(k + 1) % 60, (k + 59) % 60, k, 0] for k in range(60)], [0, 59])
 TWELVE = Machine("wxyz", [[(k + 1) % 12, 5 * k % 12, (k * k + 3) % 12, 11 - k] for k in range(12)], [1, 4, 5, 9])
 WAYS_600 = Machine("abc", [[3, 0, 2], [2, 4, 2], [2, 3, 4], [5, 0, 1], [0, 0, 4], [0, 2, 1]], [2, 5])
+PROGRAM = [(7 * k * k + k) % 60 for k in range(1000)]
+BACK_60 = list(range(60))[::-1]
+MIXED_14 = [(5 * k + 3) % 14 for k in range(14)]
+FAR_JUMPS = "uvwxaayazaa"
 # The interface: for each module each function with arguments by name, and with arguments at its limits.
 CALLS = {
     "words": [
@@ -232,6 +236,62 @@ CALLS = {
         ("beyond_one", {"one": EVEN, "other": STARTS, "joints": "x"},
          {"one": TWELVE, "other": Machine("wxyz", [[1, 2, 0, 1], [2, 1, 1, 0], [0, 1, 2, 2]], [0]), "joints": "wxy"}),
     ],
+    "programs": [
+        ("moves_of", {"size": 4, "program": [1, 0]}, {"size": 60, "program": PROGRAM}),
+        ("done_by", {"word": "abcd", "program": [1, 0]}, {"word": LONGEST[:60], "program": PROGRAM}),
+        ("parting_by", {"size": 3, "one": [0], "other": [2]}, {"size": 60, "one": PROGRAM, "other": PROGRAM[::-1]}),
+        ("undone", {"size": 4, "program": [1, 0]}, {"size": 60, "program": PROGRAM}),
+        ("joint_places", {"size": 4, "program": [1, 0]}, {"size": 60, "program": PROGRAM}),
+        ("fewest_places", {"placing": [2, 1, 0]}, {"placing": BACK_60}),
+        ("first_program", {"placing": [2, 1, 0]}, {"placing": MIXED_14}),
+        ("how_many_programs", {"placing": [1, 0, 2]}, {"placing": BACK_60}),
+        ("programs_alike", {"size": 3, "programs": [[0], [], [2, 2]]}, {"size": 60, "programs": [PROGRAM] * 40}),
+        ("joined_program", {"size": 3, "one": [0], "other": [0]},
+         {"size": 14, "one": [k * k % 14 for k in range(1000)], "other": [k * k * k % 13 for k in range(1000)]}),
+    ],
+    "oftens": [
+        ("moves_often", {"size": 5, "program": [2], "times": 7}, {"size": 60, "program": PROGRAM, "times": 10 ** 30 - 1}),
+        ("done_often", {"word": "abcde", "program": [1], "times": 5},
+         {"word": LONGEST[:60], "program": PROGRAM, "times": 10 ** 30 - 1}),
+        ("order_of", {"size": 5, "program": [1]}, {"size": 60, "program": PROGRAM}),
+        ("word_order", {"word": "aabaa", "program": [2]}, {"word": LONGEST[:60], "program": PROGRAM}),
+        ("places_often", {"size": 5, "program": [1], "times": 1},
+         {"size": 60, "program": PROGRAM, "times": 10 ** 30 - 1}),
+        ("ever_places", {"size": 5, "program": [1]}, {"size": 60, "program": PROGRAM}),
+        ("times_needed", {"size": 5, "program": [1]}, {"size": 60, "program": PROGRAM}),
+    ],
+    "jointnumbers": [
+        ("done_by_numbers", {"word": "axbyc", "joints": "xy", "numbers": [1, 1]},
+         {"word": "xay" * 100, "joints": "xy", "numbers": PROGRAM}),
+        ("done_by_numbers_often", {"word": "axbyc", "joints": "xy", "numbers": [1, 1], "times": 3},
+         {"word": "xay" * 100, "joints": "xy", "numbers": PROGRAM, "times": 10 ** 30 - 1}),
+        ("numbers_of", {"word": "axbyc", "joints": "xy", "road": [1, 1]},
+         {"word": "xy" * 150, "joints": "xy", "road": PROGRAM}),
+        ("road_of", {"word": "axbyc", "joints": "xy", "numbers": [0, 1]},
+         {"word": "xay" * 100, "joints": "xy", "numbers": PROGRAM}),
+        ("numbers_parting", {"joints": "xy", "count": 2, "one": [0], "other": [1]},
+         {"joints": "xy", "count": 60, "one": PROGRAM, "other": PROGRAM[::-1]}),
+        ("numbers_order", {"count": 4, "numbers": [1, 0]}, {"count": 60, "numbers": PROGRAM}),
+    ],
+    "jumps": [
+        ("let_places", {"word": "axby", "joints": "xy", "widths": [2]},
+         {"word": LONGEST[:60], "joints": ALPHABET, "widths": list(range(1, 61))}),
+        ("is_let_road", {"word": "axby", "joints": "xy", "widths": [2], "value": [1]},
+         {"word": "xy" * 30, "joints": "xy", "widths": list(range(1, 61)), "value": [7] * 1000}),
+        ("shuffle", {"length": 5, "widths": [1, 3]}, {"length": 300, "widths": list(range(1, 301))}),
+    ],
+    "blocks": [
+        ("blocks", {"word": FAR_JUMPS, "joints": "uvwxyz", "widths": [2, 3]},
+         {"word": LONGEST[:60], "joints": ALPHABET, "widths": list(range(1, 61))}),
+        ("jump_size", {"word": "xxy", "joints": "xy", "widths": [1, 2]},
+         {"word": LONGEST[:60], "joints": ALPHABET, "widths": [1, 2]}),
+        ("block_orders", {"word": "xyz", "joints": "xyz", "widths": [1], "number": 0},
+         {"word": "abcdefg", "joints": ALPHABET, "widths": [1, 2], "number": 0}),
+        ("jumps_lead", {"one": "xyz", "other": "yzx", "joints": "xyz", "widths": [1]},
+         {"one": LONGEST[:60], "other": LONGEST[59::-1], "joints": ALPHABET, "widths": [1]}),
+        ("jump_bars", {"one": "xyz", "other": "xzy", "joints": "xyz", "widths": [1]},
+         {"one": LONGEST[:60], "other": LONGEST[59::-1], "joints": ALPHABET, "widths": [1]}),
+    ],
 }
 # Also what is refused at the limits is refused in time.
 REFUSED = [
@@ -240,6 +300,7 @@ REFUSED = [
     ("machines", "led_out", Machine("ab", [[1, 1], [2, 0]] + [[k + 1, k] for k in range(2, 11)] + [[0, 11]], [0]), "ab"),
     ("trains", "trains_of", ["xy" * 12] * 12, "xy"), ("farthest", "spread", "xy" * 150, "xy"),
     ("bookpairs", "parting_words", "a", "b", ALPHABET, 60), ("lengths", "first_words", ALPHABET, ALPHABET, 12),
+    ("blocks", "block_orders", LONGEST[:60], ALPHABET, [1, 2, 3], 0),
 ]
 
 
