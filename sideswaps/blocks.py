@@ -29,7 +29,7 @@ def jump_size(word, joints, widths):
     # The turnings that lead the ring to one that can be come to are the same for each of these rings, and are all those
     # by so many cells as divide the ring, once, twice and so on.
     cells = len(word) + 1
-    shifts = [shift for shift in divisors_of(cells) if _bar_by(ground, _turned(word, shift), joints) is None]
+    shifts = [shift for shift in divisors_of(cells) if bar_by(ground, ring_turned(word, shift), joints) is None]
     return many // (cells // shifts[0])
 
 
@@ -48,15 +48,14 @@ def block_orders(word, joints, widths, number):
 def jumps_lead(one, other, joints, widths):
     """Whether one word comes to another one by let deeds."""
     check_two_jumps(one, other, joints, widths)
-    return jump_turning(one, other, joints, Ground(one, joints, widths)) is not None
-
-
-def jump_turning(one, other, joints, ground):
-    """The first turning by which let deeds bring one word to another one, None if there is none."""
-    for turning in lies_leading(one, other, joints):
-        if _bar_by(ground, _turned(other, turning), joints) is None:
-            return turning
-    return None
+    found = lies_leading(one, other, joints)
+    if not found:
+        return False
+    ground = Ground(one, joints, widths)
+    for turning in found:
+        if bar_by(ground, ring_turned(other, turning), joints) is None:
+            return True
+    return False
 
 
 def jump_bars(one, other, joints, widths):
@@ -68,21 +67,21 @@ def jump_bars(one, other, joints, widths):
     ground = Ground(one, joints, widths)
     bars = []
     for turning in turnings:
-        bar = _bar_by(ground, _turned(other, turning), joints)
+        bar = bar_by(ground, ring_turned(other, turning), joints)
         if bar is None:
             return None
         bars.append((turning, bar[0], bar[1]))
     return bars
 
 
-def _turned(word, turning):
+def ring_turned(word, turning):
     """What the ring of a word, turned, has at each cell of the ring on which it is laid."""
     ring = word + "_"
     cut = len(ring) - turning
     return ring[cut:] + ring[:cut]
 
 
-def _bar_by(ground, wanted, joints):
+def bar_by(ground, wanted, joints):
     """What hinders that let deeds bring what is wanted into the cells: the tuple of a reason and of cells, or None."""
     wrong = [cell for cell, sign in enumerate(wanted) if ground.ring[cell] != sign]
     bodies = [cell for cell in wrong if not _are_stars(ground.ring[cell] + wanted[cell], joints)]

@@ -3,16 +3,22 @@
 import unittest
 
 from sideswaps.blocks import block_orders, blocks, jump_bars, jump_size, jumps_lead
+from sideswaps.book import SwapBook, is_step
 from sideswaps.bookpairs import book_within, books_alike, books_tried, explaining, outside_words, parting_words
 from sideswaps.books import cheapest_book, cheapest_plan, least_books, lie_book
 from sideswaps.classes import bar, classes_of, comes, first_word, is_bar, last_word, leads_to, parted_by, road
 from sideswaps.closures import beyond_one, firm_one, within_one
 from sideswaps.farthest import dearest, farthest_word, spread, spread_of
+from sideswaps.farroads import family_parting, family_price, family_word, far_cheapest, far_lie
+from sideswaps.farwords import far_done, far_length, far_parting, far_swapped, far_word, is_far, letter_after, letter_at
+from sideswaps.farwords import plain_far, star_runs
 from sideswaps.fewest import cheapest, fewest_deeds, lie_value, lies, lots, one_deed_less, price_line
 from sideswaps.jointnumbers import done_by_numbers, done_by_numbers_often, numbers_of, numbers_order, numbers_parting
 from sideswaps.jointnumbers import road_of
+from sideswaps.jumproads import jump_fewest, jump_road
 from sideswaps.jumps import is_let_road, let_places, shuffle
 from sideswaps.lengths import classes_by_size, first_words, how_many_classes, how_many_pairs
+from sideswaps.lines import line_of, of_line, right_part
 from sideswaps.machines import Machine, closed_joints, first_barred, first_let, how_many_let, least_machine, led_out, lets
 from sideswaps.machines import road_into
 from sideswaps.means import how_many_with, letters_at, mean_of
@@ -231,6 +237,55 @@ class ExamplesTest(unittest.TestCase):
         self.assertEqual(told, [3, 6, 3, 840, [["x", "y", "z"], ["y", "z", "x"], ["z", "x", "y"]]])
         told = [jumps_lead("xyz", "yzx", "xyz", [1]), jumps_lead("xyz", "xzy", "xyz", [1]), jump_bars("axb", "bxa", "x", [1])[0]]
         self.assertEqual(told, [True, False, (0, "bodies", [0, 2])])
+        told = [is_let_road("xyz", "xyz", [1], jump_road("xyz", "yzx", "xyz", [1])), jump_fewest("xyz", "yxz", "xyz", [1, 2])]
+        self.assertEqual(told, [True, 2])
+
+    def test_far_words(self):
+        many = 10 ** 29
+        far, back = [("a", many), ("b", many)], [("b", many), ("a", many)]
+        told = [is_far([("a", 0)]), is_far([("a", -1)]), far_length(far) == 2 * many, letter_at(far, many),
+                plain_far([("a", 2), ("b", 0), ("a", 1)]), far_word([("a", 2), ("b", 1)])]
+        self.assertEqual(told, [True, False, True, "b", [("a", 3)], "aab"])
+        told = [far_swapped(far, "b", many) == back, far_swapped([("x", 2), ("a", 1)], "x", 0),
+                far_done([("a", 1), ("x", 2)], "x", [1, 0]), letter_after(far, 0, many, 0),
+                letter_after([("a", 1), ("b", 1), ("c", 3)], 1, 3, 0)]
+        self.assertEqual(told, [True, [("x", 1), ("a", 1), ("x", 1)], [("x", 1), ("a", 1), ("x", 1)], "b", "a"])
+        told = [star_runs([("a", 2), ("x", 3), ("b", 1)], "x"), star_runs(far, "ab") == [("*", 2 * many + 1)]]
+        self.assertEqual(told, [[("*", 3), ("b", 1), ("*", 1), ("a", 2)], True])
+        told = [far_parting(far, back, "b"), far_parting([("a", many), ("b", 1)], [("a", many), ("c", 1)], "bc"),
+                far_parting([("a", 1), ("b", 2)], [("b", 1), ("a", 1), ("b", 1)], "")]
+        self.assertEqual(told, [None, ("joint", "b", 1, 0),
+                                ("ring", [("*", 1), ("a", 1), ("b", 2)], [("*", 1), ("b", 1), ("a", 1), ("b", 1)])])
+
+    def test_far_roads(self):
+        many, prices = 10 ** 29, [("a", 1), ("b", 1)]
+        far, back = [("a", many), ("b", many)], [("b", many), ("a", many)]
+        told = [far_cheapest(far, back, prices) == (1, many),
+                far_lie(far, back, prices, 0) == (2 * many + 1, [("a", many), ("b", many)], ["ab"]),
+                far_lie(far, back, prices, many + 1)]
+        self.assertEqual(told, [True, True, (1, [("b", 1)], ["_b"])])
+        up, down = [("a", 0, 1), ("b", 0, 1), ("c", 0, 1)], [("c", 0, 1), ("b", 0, 1), ("a", 0, 1)]
+        told = [family_word(up, 2), family_parting(up, down, "ac"), family_parting(up, down, "abc"),
+                family_price(up, down, [("a", 1), ("b", 1), ("c", 1)])]
+        self.assertEqual(told, [[("a", 2), ("b", 2), ("c", 2)], None, None, (1, 1, 2)])
+
+    def test_lines_and_a_book(self):
+        told = [line_of([("x", 3), ("y", 1)], "axbyc"), line_of([], ""), of_line("x=12:"), right_part("x=3,a=1:b"),
+                right_part("x=03"), right_part("z=1,y=1:"), right_part(":aB")]
+        self.assertEqual(told, ["x=3,y=1:axbyc", ":", ([("x", 12)], ""), "x=3,", "x=", "z=1", ":a"])
+        book = SwapBook([("x", 3), ("y", 1)], "axbyc")
+        book.do(("swap", 1))
+        book.do(("swap", 1))
+        told = [book.word(), book.spent(), book.waste(), book.cost_to("axbyc"), book.cheap_steps("axbyc"),
+                is_step(book, ("swap", 0))]
+        self.assertEqual(told, ["cxayb", 4, 0, 4, [("swap", 3)], False])
+        book.do(("body", "x"))
+        told = [book.prices(), book.cost_to("axbyc"), book.waste(), book.log()]
+        self.assertEqual(told, [[("y", 1)], None, 0, [("swap", 1), ("swap", 1), ("body", "x")]])
+        book.undo()
+        book.undo()
+        told = [book.word(), book.spent(), book.prices(), book == SwapBook([("x", 3), ("y", 1)], "bycxa")]
+        self.assertEqual(told, ["bycxa", 3, [("x", 3), ("y", 1)], False])
 
 
 if __name__ == "__main__":

@@ -7,7 +7,9 @@ import unittest
 
 PACKAGE = pathlib.Path(__file__).resolve().parent.parent / "sideswaps"
 FILES = sorted(PACKAGE.rglob("*.py"))
-LIBRARY = {"math": {"gcd", "lcm", "isqrt", "comb", "perm", "factorial"}}
+LIBRARY = {
+    "math": {"gcd", "lcm", "isqrt", "comb", "perm", "factorial"}, "itertools": {"product", "combinations", "permutations"},
+}
 BUILTINS = set(
     "len range enumerate zip min max sum abs sorted reversed int str bool bytes list tuple dict set isinstance ord repr "
     "any all divmod ValueError KeyError ZeroDivisionError".split()

@@ -7,6 +7,7 @@ import signal
 import time
 import unittest
 
+from sideswaps.book import SwapBook
 from sideswaps.errors import TooMany
 from sideswaps.machines import Machine
 
@@ -27,6 +28,13 @@ PROGRAM = [(7 * k * k + k) % 60 for k in range(1000)]
 BACK_60 = list(range(60))[::-1]
 MIXED_14 = [(5 * k + 3) % 14 for k in range(14)]
 FAR_JUMPS = "uvwxaayazaa"
+MANY = 10 ** 29
+TWO_RUNS = [("a", MANY), ("b", MANY)]
+FAR_12 = [(letter, 10 ** 30 - 1 - k * k) for k, letter in enumerate("xyzwxyzwyxwz")]
+SIX_FIGURES = [("w", 999999), ("x", 3), ("y", 500000), ("z", 999998)]
+UP, DOWN = [("a", 0, 1), ("b", 0, 1), ("c", 0, 1)], [("c", 0, 1), ("b", 0, 1), ("a", 0, 1)]
+FAMILY, OTHER = [("z", 2, 5), ("y", 0, 1), ("x", 9, 1), ("y", 9, 0)], [("y", 9, 0), ("x", 9, 1), ("y", 0, 1), ("z", 2, 5)]
+LINE = ",".join(letter + "=" + "9" * 30 for letter in ALPHABET) + ":" + LONGEST
 # The interface: for each module each function with arguments by name, and with arguments at its limits.
 CALLS = {
     "words": [
@@ -292,6 +300,55 @@ CALLS = {
         ("jump_bars", {"one": "xyz", "other": "xzy", "joints": "xyz", "widths": [1]},
          {"one": LONGEST[:60], "other": LONGEST[59::-1], "joints": ALPHABET, "widths": [1]}),
     ],
+    "jumproads": [
+        ("jump_road", {"one": "xyz", "other": "yzx", "joints": "xyz", "widths": [1]},
+         {"one": "avwtxzyu", "other": "tvxauzyw", "joints": "tuvwxyz", "widths": [4, 7, 8]}),
+        ("jump_fewest", {"one": "xyz", "other": "yxz", "joints": "xyz", "widths": [1, 2]},
+         {"one": "avtxzawauaaya", "other": "aauavawyzxata", "joints": "tuvwxyz", "widths": [2, 10, 13]}),
+        ("least_widths", {"one": "xyz", "other": "xzy", "joints": "xyz"},
+         {"one": "tauavwxaayaz", "other": "zayaaxwvauat", "joints": "tuvwxyz"}),
+    ],
+    "farwords": [
+        ("is_far", {"value": [("a", 0)]}, {"value": FAR_12}),
+        ("far_length", {"far": TWO_RUNS}, {"far": FAR_12}),
+        ("letter_at", {"far": TWO_RUNS, "place": MANY}, {"far": FAR_12, "place": 10 ** 30 - 1}),
+        ("plain_far", {"far": [("a", 2), ("b", 0), ("a", 1)]}, {"far": FAR_12}),
+        ("far_word", {"far": [("a", 2), ("b", 1)]}, {"far": [("a", 100), ("b", 100), ("c", 100)]}),
+        ("far_swapped", {"far": TWO_RUNS, "joints": "b", "place": MANY},
+         {"far": FAR_12, "joints": "wxyz", "place": 10 ** 30 - 1}),
+        ("far_done", {"far": [("a", 1), ("x", 2)], "joints": "x", "road": [1, 0]},
+         {"far": FAR_12, "joints": "wxyz", "road": [MANY * k // 5 for k in range(40)]}),
+        ("letter_after", {"far": TWO_RUNS, "place": 0, "many": MANY, "spot": 0},
+         {"far": FAR_12, "place": 10 ** 30 - 2, "many": 10 ** 30 - 1, "spot": 10 ** 30 - 3}),
+        ("star_runs", {"far": [("a", 2), ("x", 3), ("b", 1)], "joints": "x"}, {"far": FAR_12, "joints": "y"}),
+        ("far_parting", {"one": TWO_RUNS, "other": TWO_RUNS[:1], "joints": "b"},
+         {"one": FAR_12, "other": FAR_12[::-1], "joints": "wxy"}),
+    ],
+    "farroads": [
+        ("far_lie", {"one": TWO_RUNS, "other": TWO_RUNS[::-1], "prices": [("a", 1), ("b", 1)], "number": 0},
+         {"one": FAR_12, "other": FAR_12[::-1], "prices": SIX_FIGURES, "number": 10 ** 30 - 1}),
+        ("far_cheapest", {"one": TWO_RUNS, "other": TWO_RUNS[::-1], "prices": [("a", 1), ("b", 1)]},
+         {"one": FAR_12, "other": FAR_12[::-1], "prices": SIX_FIGURES}),
+        ("family_word", {"family": UP, "n": 2}, {"family": FAMILY, "n": 10 ** 30 - 1}),
+        ("family_parting", {"one": UP, "other": DOWN, "joints": "ac"}, {"one": FAMILY, "other": OTHER, "joints": "xyz"}),
+        ("family_price", {"one": UP, "other": DOWN, "prices": [("a", 1), ("b", 1), ("c", 1)]},
+         {"one": FAMILY, "other": OTHER, "prices": [("w", 9), ("x", 8), ("y", 9), ("z", 8)]}),
+    ],
+    "lines": [
+        ("line_of", {"prices": FEES, "word": "axbyc"}, {"prices": ALL_FEES, "word": LONGEST}),
+        ("of_line", {"line": "x=3,y=1:axbyc"}, {"line": LINE}),
+        ("right_part", {"line": "x=3,a=1:b"}, {"line": ":" + "x" * 1999}),
+    ],
+    "book": [
+        ("SwapBook", {"prices": FEES, "word": "axbyc"}, {"prices": ALL_FEES, "word": LONGEST[:60]}),
+        ("is_step", {"book": SwapBook(FEES, "axbyc"), "value": ("swap", 1)},
+         {"book": SwapBook(ALL_FEES, LONGEST[:60]), "value": ("price", "x", 10 ** 30 - 1)}),
+    ],
+}
+# Each class with the methods that the interface lists for it.
+METHODS = {
+    Machine: ["letters", "moves", "ends"],
+    SwapBook: ["prices", "word", "spent", "do", "undo", "redo", "log", "copy", "cost_to", "waste", "cheap_steps"],
 }
 # Also what is refused at the limits is refused in time.
 REFUSED = [
@@ -372,14 +429,18 @@ class GeneralTest(unittest.TestCase):
                 self.check_kinds(function(**arguments))
 
     def check_kinds(self, value):
-        self.assertIn(value.__class__, (type(None), bool, str, int, tuple, list, Machine))
+        self.assertIn(value.__class__, (type(None), bool, str, int, tuple, list, Machine, SwapBook))
         if isinstance(value, (list, tuple)):
             for item in value:
                 self.check_kinds(item)
 
     def test_methods_stand_in_their_class(self):
-        for name in ("letters", "moves", "ends", "__eq__"):
-            self.assertIn(name, vars(Machine))
+        for each, names in METHODS.items():
+            for name in names + ["__init__", "__eq__"]:
+                self.assertIn(name, vars(each))
+        parameters = {name: list(inspect.signature(getattr(SwapBook, name)).parameters) for name in METHODS[SwapBook]}
+        self.assertEqual([parameters[name] for name in ("do", "cost_to", "cheap_steps", "undo", "copy")],
+                         [["self", "step"], ["self", "other"], ["self", "other"], ["self"], ["self"]])
 
     def test_refused_within_seconds(self):
         for module, name, *arguments in REFUSED:
