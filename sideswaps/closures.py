@@ -2,6 +2,7 @@
 
 from sideswaps.errors import TooMany, Unlike
 from sideswaps.machines import MOST_STATES, check_machine, machine_of, table_of
+from sideswaps.needs import Needs, table_within
 from sideswaps.states import least_table
 from sideswaps.words import check_joints
 
@@ -11,8 +12,8 @@ def within_one(machine, joints):
     check_machine(machine)
     check_joints(joints)
     moves, let = table_of(machine)
-    rows, within = _within(moves, let, machine.letters(), joints)
-    return _small_machine(machine.letters(), rows, within)
+    rows, within = _least_within(moves, let, machine.letters(), joints)
+    return machine_of(machine.letters(), rows, within)
 
 
 def firm_one(machine, joints):
@@ -21,58 +22,17 @@ def firm_one(machine, joints):
     check_joints(joints)
     moves, let = table_of(machine)
     # They are all words but those from which at most one deed leads to a word that is not let.
-    rows, within = _within(moves, [not each for each in let], machine.letters(), joints)
-    return _small_machine(machine.letters(), rows, [not each for each in within])
+    rows, within = _least_within(moves, [not each for each in let], machine.letters(), joints)
+    return machine_of(machine.letters(), rows, [not each for each in within])
 
 
-def _small_machine(letters, rows, let):
-    """The least machine that lets what a table lets."""
-    least = least_table(rows, let, letters, MOST_STATES)
+def _least_within(moves, let, letters, joints):
+    """The smallest table of the words from which at most one deed leads to a word that another table lets."""
+    table = table_within(moves, let, letters, joints, MOST_STATES)
+    least = None if table is None else least_table(table[0], table[1], letters, MOST_STATES)
     if least is None:
         raise TooMany(MOST_STATES + 1)
-    return machine_of(letters, least[0], least[1])
-
-
-def _within(moves, let, letters, joints):
-    """A table of the words from which at most one deed leads to a word that another table lets.
-
-    Of a word that is begun, a state tells to which states it leads all states, and, for each state that the part
-    behind a joint may lead to, where it stands with this part if the part ahead of the joint does what it then must.
-    """
-    start = (tuple(range(len(moves))), ((),) * len(moves))
-    number, order = {start: 0}, [start]
-    rows = []
-    images = {}
-    while len(rows) < len(order):
-        row = []
-        for at, letter in enumerate(letters):
-            made = _gone_on(order[len(rows)], moves, let, at, letter in joints, images)
-            if made not in number:
-                number[made] = len(order)
-                order.append(made)
-            row.append(number[made])
-        rows.append(row)
-    return rows, [_is_within(let, way, parts) for way, parts in order]
-
-
-def _gone_on(state, moves, let, at, is_joint, images):
-    """The state of the table of one deed with one more letter, told by its number."""
-    way, parts = state
-    made = []
-    for end, held in enumerate(parts):
-        if (at, held) not in images:
-            images[(at, held)] = tuple(sorted({moves[each][at] for each in held}))
-        led = images[(at, held)]
-        if is_joint and let[way[moves[end][at]]] and 0 not in led:
-            # The part behind this joint begins here; if it leads to this end, the part ahead of it leads on to be let.
-            led = (0,) + led
-        made.append(led)
-    return tuple([moves[each][at] for each in way]), tuple(made)
-
-
-def _is_within(let, way, parts):
-    """Whether a word is let, or a deed leads from it to one that is, by its state in the table of one deed."""
-    return let[way[0]] or any([end in held for end, held in enumerate(parts)])
+    return least
 
 
 def beyond_one(one, other, joints):
@@ -83,23 +43,21 @@ def beyond_one(one, other, joints):
     if one.letters() != other.letters():
         raise Unlike(other)
     moves, let = table_of(other)
-    rows, within = _within(moves, let, one.letters(), joints)
-    return _first_word_apart(table_of(one), least_table(rows, within, one.letters(), len(rows)), one.letters())
+    return _first_word_apart(table_of(one), Needs(moves, let, one.letters(), joints), one.letters())
 
 
-def _first_word_apart(table, other, letters):
-    """The first word that one table lets and another one does not, None if there is none."""
+def _first_word_apart(table, needs, letters):
+    """The first word that a table lets and from which at most one deed leads to none that is let, None if none is."""
     moves, let = table
-    rows, within = other
     words = {(0, 0): ""}
     order = [(0, 0)]
     spot = 0
     while spot < len(order):
         state, beside = order[spot]
         text = words[order[spot]]
-        if let[state] and not within[beside]:
+        if let[state] and not needs.is_within(beside):
             return text
-        for letter, led, along in zip(letters, moves[state], rows[beside]):
+        for letter, led, along in zip(letters, moves[state], needs.row_of(beside)):
             if (led, along) not in words:
                 words[(led, along)] = text + letter
                 order.append((led, along))

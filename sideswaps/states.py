@@ -43,12 +43,11 @@ def _groups_alike(moves, let, most):
     The state 0 is in the group 0; None if there are more groups than a number.
     """
     groups, many = list(let), 0
+    columns = [[row[at] for row in moves] for at in range(len(moves[0]))]
     while many <= most:
         numbers = {}
-        parted = []
-        for group, row in zip(groups, moves):
-            key = (group, tuple([groups[made] for made in row]))
-            parted.append(numbers.setdefault(key, len(numbers)))
+        led = [[groups[made] for made in column] for column in columns]
+        parted = [numbers.setdefault(key, len(numbers)) for key in zip(groups, *led)]
         if len(numbers) == many:
             return groups
         groups, many = parted, len(numbers)

@@ -1,6 +1,8 @@
 """Points 52 and 53: one deed, and one joint."""
 
+import itertools
 import random
+import time
 import unittest
 
 from plain import NOT_JOINTS, NOT_MACHINES, books_over, check_refusals, drawn_machine, plain_class, plain_deed, plain_lets
@@ -20,6 +22,17 @@ DUE = {
     ("firm", 60): (Machine("abc", [[1, 2, 1], [2, 0, 0], [0, 1, 1]], [0, 2]), "abc"),
     ("firm", 61): (Machine("abc", [[1, 1, 2], [0, 2, 1], [1, 2, 2]], [1, 2]), "c"),
 }
+# Calls that could take long: the function, the machine, the joints, and how many states are due, 61 for more than 60.
+LONG = [
+    (within_one, Machine("abc", [[2, 2, 1], [0, 1, 2], [1, 0, 1]], [0]), "abc", 61),
+    (within_one, Machine("abcd", [[0, 1, 2, 1], [2, 1, 1, 2], [1, 1, 2, 0]], [0, 2]), "ab", 61),
+    (within_one, Machine("abcd", [[2, 1, 0, 2], [1, 2, 0, 1], [0, 0, 2, 2]], [0]), "abcd", 61),
+    (within_one, Machine("abcd", [[1, 1, 2, 2], [1, 2, 1, 0], [1, 0, 2, 1]], [1]), "abcd", 34),
+    (within_one, Machine("abc", [[1, 2, 0], [1, 1, 2], [2, 0, 1]], [0, 2]), "abc", 24),
+    (firm_one, Machine("abc", [[2, 0, 2], [2, 2, 0], [0, 1, 1]], [0, 2]), "ab", 61),
+    (firm_one, Machine("abcd", [[1, 2, 2, 0], [2, 0, 1, 2], [1, 1, 0, 0]], [0, 1]), "ab", 61),
+    (firm_one, Machine("abc", [[0, 1, 2], [2, 0, 1], [1, 2, 2]], [1, 2]), "abc", 61),
+]
 
 
 def at_most_one_deed(word, joints):
@@ -33,6 +46,55 @@ def plain_within(machine, word, joints):
 
 def plain_firm(machine, word, joints):
     return all(plain_lets(machine, made) for made in at_most_one_deed(word, joints))
+
+
+def plain_due(machine, joints, firm):
+    """The moves and ends of the least machine that is due, told by guesses that are followed all at once.
+
+    It is guessed to which state the part behind a joint will lead, and which joint this is; the part ahead of it is read
+    from the state behind this joint on, and then the part behind it from the state 0 on, to the state that was guessed.
+    """
+    letters, moves = machine.letters(), machine.moves()
+    let = [(state in machine.ends()) != firm for state in range(len(moves))]
+    start = {("whole", 0)} | {("ahead", end, at, row[at]) for end, row in enumerate(moves)
+                              for at, letter in enumerate(letters) if letter in joints}
+    start = frozenset(start)
+    order, rows = {start: 0}, []
+    for held in iter_grown(order):
+        row = []
+        for at in range(len(letters)):
+            made = {each[:-1] + (moves[each[-1]][at],) for each in held}
+            made |= {("behind", each[1], 0) for each in held if each[0] == "ahead" and each[2] == at and let[each[-1]]}
+            row.append(order.setdefault(frozenset(made), len(order)))
+        rows.append(row)
+    met = [any(each == ("whole", each[-1]) and let[each[-1]] or each == ("behind", each[-1], each[-1]) for each in held) != firm
+           for held in order]
+    return plain_least(rows, met)
+
+
+def iter_grown(order):
+    """The keys of a dict, in order, also those that come behind them meanwhile."""
+    spot = 0
+    while spot < len(order):
+        for held in list(order)[spot:]:
+            yield held
+            spot += 1
+
+
+def plain_least(rows, met):
+    """The moves and ends of the least machine of a table, by parting states as long as letters lead them to unlike ones."""
+    groups, many = [int(each) for each in met], 0
+    while len(set(groups)) != many:
+        many, keys = len(set(groups)), {}
+        groups = [keys.setdefault((group, *[groups[made] for made in row]), len(keys)) for group, row in zip(groups, rows)]
+    firsts = {}
+    for state, group in enumerate(groups):
+        firsts.setdefault(group, state)
+    order = {groups[0]: 0}
+    moves = []
+    for group in iter_grown(order):
+        moves.append([order.setdefault(groups[made], len(order)) for made in rows[firsts[group]]])
+    return moves, [number for group, number in order.items() if met[firsts[group]]]
 
 
 def drawn_cases(seed, many):
@@ -92,6 +154,48 @@ class OneDeedTest(unittest.TestCase):
                 with self.assertRaises(TooMany) as caught:
                     function(machine, joints)
                 self.assertEqual(caught.exception.value, 61)
+
+    def check_due(self, function, machine, joints):
+        """The machine, or TooMany, is what parts guessed and then put together tell; how many states are due."""
+        moves, ends = plain_due(machine, joints, function == firm_one)
+        if len(moves) > 60:
+            with self.assertRaises(TooMany) as caught:
+                function(machine, joints)
+            self.assertEqual(caught.exception.value, 61)
+        else:
+            self.assertEqual(function(machine, joints), Machine(machine.letters(), moves, ends), (machine.moves(), joints))
+        return len(moves)
+
+    def test_calls_that_could_take_long(self):
+        for function, machine, joints, states in LONG:
+            self.assertEqual(min(self.check_due(function, machine, joints), 61), states)
+
+    def test_against_parts_that_are_guessed(self):
+        draw, found = random.Random(8), []
+        for _ in range(250):
+            letters = draw.choice(["a", "ab", "ab", "abc", "abcd"])
+            machine, joints = drawn_machine(draw, letters, draw.choice([1, 2, 3, 3, 3])), draw.choice(books_over(letters + "z"))
+            found.extend([self.check_due(function, machine, joints) for function in (within_one, firm_one)])
+        self.assertTrue(any(states > 60 for states in found) and any(20 < states <= 60 for states in found))
+
+    def test_long_rows_of_calls(self):
+        # A bound far above the time that it does take, far below what looking at all states of all calls took.
+        begun = time.process_time()
+        for _ in range(30):
+            for function, machine, joints, states in LONG:
+                try:
+                    self.assertEqual(len(function(machine, joints).moves()), states)
+                except TooMany:
+                    self.assertEqual(states, 61)
+        self.assertLess(time.process_time() - begun, 2.5)
+
+    def test_all_machines_of_two_states(self):
+        # All of them with two letters, and those that let as many words the other way round.
+        for moves in itertools.product(range(2), repeat=4):
+            for ends in ([], [0], [1], [0, 1]):
+                machine = Machine("ax", [list(moves[:2]), list(moves[2:])], ends)
+                for joints in ("", "a", "x", "ax"):
+                    self.assertEqual(len(self.check(machine, joints, 6)), 2)
 
     def test_four_letters(self):
         draw = random.Random(4)
