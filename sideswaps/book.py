@@ -70,7 +70,6 @@ class SwapBook:
 
     def cost_to(self, other):
         """The least price of a road from the word to another one, None if there is none."""
-        check_word(other)
         return cheapest(self._page.text, other, self._page.fees)
 
     def waste(self):
@@ -80,7 +79,6 @@ class SwapBook:
 
     def cheap_steps(self, other):
         """The steps with which a road of the least price to another word can begin."""
-        check_word(other)
         places = first_deeds(self._page.text, other, self._page.fees)
         return [("swap", place) for place in places] if places else []
 

@@ -1,7 +1,7 @@
 """Cheapest roads of far words, and of families of such words for all numbers."""
 
 from sideswaps.errors import InvalidFar, InvalidNumber, Unlike
-from sideswaps.farwords import check_far, far_parting, length_of, runs_of, times_of
+from sideswaps.farwords import check_far, far_parting, length_of, run_at, runs_of, times_of
 from sideswaps.ties import lots_of
 from sideswaps.words import check_count, check_joints, check_prices, is_count, is_letter, letters_priced
 
@@ -13,12 +13,8 @@ def _ring_of(far):
 
 def _read_from(runs, cell):
     """The runs of a ring, read round from a cell on."""
-    spot, start = 0, 0
-    while cell >= start + runs[spot][1]:
-        start += runs[spot][1]
-        spot += 1
+    spot, ahead = run_at(runs, cell)
     sign, times = runs[spot]
-    ahead = cell - start
     return [(sign, times - ahead)] + runs[spot + 1:] + runs[:spot] + [(sign, ahead)]
 
 

@@ -64,15 +64,20 @@ def letter_at(far, place):
     return _sides_of(far, place)[1]
 
 
+def run_at(runs, place):
+    """The spot of the run in which a place is, and how many of its signs are ahead of the place."""
+    spot = 0
+    while place >= runs[spot][1]:
+        place -= runs[spot][1]
+        spot += 1
+    return spot, place
+
+
 def _sides_of(runs, place):
     """The runs ahead of a place, the sign at it, and the runs behind it; some of the runs may be empty."""
-    spot, start = 0, 0
-    while place >= start + runs[spot][1]:
-        start += runs[spot][1]
-        spot += 1
+    spot, ahead = run_at(runs, place)
     sign, times = runs[spot]
-    ahead = runs[:spot] + [(sign, place - start)]
-    return ahead, sign, [(sign, start + times - place - 1)] + runs[spot + 1:]
+    return runs[:spot] + [(sign, ahead)], sign, [(sign, times - ahead - 1)] + runs[spot + 1:]
 
 
 def plain_far(far):

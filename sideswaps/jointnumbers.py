@@ -97,7 +97,7 @@ def numbers_parting(joints, count, one, other):
     check_size(count)
     check_program(one, count)
     check_program(other, count)
-    if joints == "" and count > 0:
+    if joints == "":
         return None
     spot = last_parted(moves_by(count, one), moves_by(count, other))
     if spot is not None and len(joints) > 1:

@@ -20,7 +20,7 @@ class Needs:
     """
 
     def __init__(self, moves, let, letters, joints):
-        self.moves = moves
+        self.leading = moves
         self.let = let
         self.size = len(moves)
         self.joined = [letter in joints for letter in letters]
@@ -48,7 +48,7 @@ class Needs:
         The part ahead of this letter does what it has to if it then leads on to a state that lets.
         """
         begun = [0] * self.size
-        for end, row in enumerate(self.moves):
+        for end, row in enumerate(self.leading):
             for state, is_joint, shift in zip(row, self.joined, self.shifts):
                 if is_joint:
                     begun[state] |= 1 << (shift + end * self.size)
@@ -57,8 +57,8 @@ class Needs:
     def row_of(self, spot):
         """For each letter the number of the begun word with it behind one with a number."""
         if spot not in self.rows:
-            row = []
-            for begun in self._led(self.order[spot]):
+            row, found = [], self._led(self.order[spot])
+            for begun in found:
                 key = self._key_of(begun)
                 if key not in self.number:
                     self.number[key] = len(self.order)
@@ -178,7 +178,7 @@ def _met_by(text, ways, needs, letters):
     for place, letter in enumerate(text):
         at = letters.index(letter)
         if needs.joined[at]:
-            behind = needs.moves[ways[text[place + 1:]][0]][at]
+            behind = needs.leading[ways[text[place + 1:]][0]][at]
             found.extend([(behind, state) for state, end in enumerate(ways[text[:place]]) if needs.let[end]])
     return found
 

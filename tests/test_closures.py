@@ -170,6 +170,17 @@ class OneDeedTest(unittest.TestCase):
         for function, machine, joints, states in LONG:
             self.assertEqual(min(self.check_due(function, machine, joints), 61), states)
 
+    def test_just_60_and_61_among_many(self):
+        # Far more begun words than states that are due.
+        for function, moves, ends, joints, states in [
+            (firm_one, [[2, 1, 1, 0], [1, 1, 2, 2], [1, 0, 1, 1]], [0, 1], "bc", 60),
+            (within_one, [[2, 0, 2, 2], [0, 0, 0, 2], [0, 2, 1, 1]], [2], "abcd", 60),
+            (within_one, [[2, 1, 2, 1], [1, 1, 0, 0], [1, 0, 0, 1]], [0], "abcd", 61),
+            (firm_one, [[2, 1, 0, 2], [2, 2, 0, 1], [1, 1, 2, 2]], [0, 2], "abc", 61),
+            (firm_one, [[0, 1, 0, 2], [1, 1, 1, 0], [2, 2, 0, 0]], [1, 2], "abc", 62),
+        ]:
+            self.assertEqual(self.check_due(function, Machine("abcd", moves, ends), joints), states)
+
     def test_against_parts_that_are_guessed(self):
         draw, found = random.Random(8), []
         for _ in range(250):

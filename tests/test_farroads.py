@@ -214,6 +214,19 @@ class FamiliesTest(unittest.TestCase):
             rises = [second - first for first, second in zip(plain, plain[1:])]
             self.assertEqual(rises, sorted(rises, reverse=True))
 
+    def test_prices_of_lies_beside_those_that_bring_ends_on_ends(self):
+        one = [("y", 3, 8), ("x", 0, 8), ("x", 2, 1), ("z", 2, 0)]
+        other = [("x", 0, 8), ("z", 2, 0), ("x", 2, 1), ("y", 3, 8)]
+        self.assertEqual(family_price(one, other, [("w", 4), ("x", 7), ("y", 1), ("z", 2)]), (1, 20, 0))
+        one = [("x", 2, 0), ("y", 1, 3), ("z", 3, 2), ("z", 1, 0)]
+        other = [("z", 3, 2), ("y", 1, 3), ("x", 2, 0), ("z", 1, 0)]
+        self.assertEqual(family_price(one, other, [("w", 1), ("x", 3), ("y", 3), ("z", 5)]), (1, 19, 0))
+        one = [("x", 2), ("w", 19), ("y", 3), ("w", 0), ("y", 2), ("x", 9)]
+        other = [("w", 7), ("y", 2), ("w", 0), ("y", 3), ("w", 12), ("x", 2), ("x", 9)]
+        prices = [("w", 5), ("x", 1), ("y", 1), ("z", 5)]
+        values = [(far_lie(one, other, prices, number)[0], number) for number in range(far_length(one) + 1)]
+        self.assertEqual([min(values), far_cheapest(one, other, prices)], [(32, 1), (32, 1)])
+
     def test_ordinary(self):
         told = [family_parting(UP, DOWN, "ac"), family_parting(UP, DOWN, "abc"),
                 family_price(UP, DOWN, [("a", 1), ("b", 1), ("c", 1)])]

@@ -76,6 +76,8 @@ class ShuffleTest(unittest.TestCase):
     def test_ordinary(self):
         told = [shuffle(4, [1]), shuffle(5, [2]), shuffle(5, [1, 3]), shuffle(5, [1, 2]), shuffle(7, [2, 4]), shuffle(3, [7])]
         self.assertEqual(told, [("round", 4), ("round", 6), ("even", 60), ("all", 120), ("all", 24), ("none", 1)])
+        self.assertEqual([shuffle(7, [1, 3]), shuffle(8, [1, 3]), shuffle(7, [1, 2]), shuffle(3, [1, 2]), shuffle(9, [2, 6])],
+                         [("even", 2520), ("all", 40320), ("all", 5040), ("all", 6), ("all", 120)])
         self.assertEqual([shuffle(5, [1, 5]), shuffle(5, [5]), shuffle(5, [3]), shuffle(5, [1, 5, 9])],
                          [("round", 5), ("round", 5), ("round", 2), ("round", 5)])
 
