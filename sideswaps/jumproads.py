@@ -8,6 +8,10 @@ from sideswaps.jumps import check_two_jumps
 from sideswaps.laying import lies_leading
 from sideswaps.words import check_two
 
+# So many bits are enough for any sign from "_" to "z", and FULL has them all.
+BITS = 5
+FULL = 31
+
 
 def jump_road(one, other, joints, widths):
     """A shortest road with let deeds from one word to another one, None if there is none."""
@@ -36,44 +40,59 @@ def _holes_on_way(one, other, joints, widths):
     if not goals:
         return None
     stars = sorted(ground.ahead)
-    near = [[stars.index(cell) for cell in ground.near[star]] for star in stars]
-    texts = ["".join([ring[star] for star in stars]) for ring in [ground.ring] + goals]
-    return [stars[text.index("_")] for text in _shortest_way(texts[0], texts[1:], near)]
+    jumps = [[stars.index(cell) for cell in ground.near[star]] for star in stars]
+    orders = [_order_of([ring[star] for star in stars]) for ring in [ground.ring] + goals]
+    return [stars[spot] for spot in _shortest_way(orders[0], orders[1:], jumps)]
 
 
-def _shortest_way(start, goals, near):
-    """The orders of letters on some stars on a shortest way from one to one of others, to which there is a way."""
+def _order_of(signs):
+    """The signs on some stars as one number, with so many bits for each that the hole has no bit and no letter none."""
+    return sum([(ord(sign) - ord("_")) << (spot * BITS) for spot, sign in enumerate(signs)])
+
+
+def _hole_of(order, many):
+    """The spot of the hole in an order of signs on so many stars."""
+    return [spot for spot in range(many) if (order >> (spot * BITS)) & FULL == 0][0]
+
+
+def _shortest_way(start, goals, jumps):
+    """The spots of the hole on a shortest way from an order of signs to one of others, to which there is a way."""
     came, goes = {start: None}, {goal: None for goal in goals}
-    last, first = [start], goals
-    met = [text for text in last if text in goes]
+    last, first = [(start, _hole_of(start, len(jumps)))], [(goal, _hole_of(goal, len(jumps))) for goal in goals]
+    shifts = [_shifts_of(hole, spots) for hole, spots in enumerate(jumps)]
+    met = [order for order, _ in last if order in goes]
     while not met:
         # All ways from both ends are gone on with by one jump at a time, so that no shorter way is passed over.
         if len(last) <= len(first):
-            last = _gone_on(last, came, near)
-            met = [text for text in last if text in goes]
+            last = _gone_on(last, came, shifts)
+            met = [order for order, _ in last if order in goes]
         else:
-            first = _gone_on(first, goes, near)
-            met = [text for text in first if text in came]
-    return _way_back(met[0], came)[::-1] + _way_back(met[0], goes)[1:]
+            first = _gone_on(first, goes, shifts)
+            met = [order for order, _ in first if order in came]
+    way = _way_back(met[0], came)[::-1] + _way_back(met[0], goes)[1:]
+    return [_hole_of(order, len(jumps)) for order in way]
 
 
-def _gone_on(level, known, near):
+def _shifts_of(hole, spots):
+    """For each spot from which a sign may jump to the hole: the spot, how far its bits are, and how the sign counts."""
+    return [(spot, spot * BITS, (1 << (hole * BITS)) - (1 << (spot * BITS))) for spot in spots]
+
+
+def _gone_on(level, known, shifts):
     """The orders that one jump makes of some orders and that are not known; each is known then by what it came of."""
     later = []
-    for text in level:
-        hole = text.index("_")
-        for spot in near[hole]:
-            left, right = min(hole, spot), max(hole, spot)
-            made = text[:left] + text[right] + text[left + 1:right] + text[left] + text[right + 1:]
+    for order, hole in level:
+        for spot, bits, change in shifts[hole]:
+            made = order + ((order >> bits) & FULL) * change
             if made not in known:
-                known[made] = text
-                later.append(made)
+                known[made] = order
+                later.append((made, spot))
     return later
 
 
-def _way_back(text, known):
+def _way_back(order, known):
     """The orders from one back to that from which all came."""
-    way = [text]
+    way = [order]
     while known[way[-1]] is not None:
         way.append(known[way[-1]])
     return way
