@@ -80,8 +80,9 @@ def way_up(ahead, cell):
 def _labels_of(near, ahead):
     """For each star of a tree but its root a label, alike for two of them if the ways ahead of them are in one block.
 
-    Whatever tree is taken: two near stars beside it close a round with the ways ahead of them up to where these meet,
-    all of which are in one block; and no other ways are, but by several such rounds.
+    Two near stars that are not beside each other in the tree close a round with the ways ahead of them up to where
+    these meet, all of which are in one block; and no other ways are, but by several such rounds. Neither of the two is
+    the root, as all stars near to it are beside it in the tree.
     """
     labels = {cell: cell for cell in ahead if ahead[cell] != cell}
     for one, other in edges_beside(near, ahead):
